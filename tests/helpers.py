@@ -1,0 +1,200 @@
+"""What several test files need: values near a value, grids of readings, random tables."""
+
+import copy
+import itertools
+import random
+from fractions import Fraction
+
+
+def nested(depth, make=tuple):
+    """An empty tuple or list inside of others, so many deep."""
+    value = make()
+    for _ in range(depth - 1):
+        value = make([value])
+    return value
+
+
+ODD_VALUES = (
+    None, True, False, 0, 1, -1, 2, 10 ** 30, "", "a", "1", "x.y", (), [], (()), ((),), ([],), [()], (None,), (0,), (0, 1),
+    [0, 1], (0, 1, 0), (True, False), "abc" * 100, nested(12), nested(12, list), ((1, 2), [3, ("a", None)]),
+    ((0, 1), None), (((0, 1), None),), (((0, 1), (0, 1)), ((0, 1), (0, 1))))
+
+
+def near_values(value):
+    """Values that differ from the value in one place."""
+    yield from ODD_VALUES
+    if isinstance(value, bool) or value is None:
+        return
+    if isinstance(value, int):
+        yield from (value + 1, value - 1, -value, str(value), (value,))
+        if value in (0, 1):
+            yield bool(value)
+    elif isinstance(value, str):
+        yield from (value + "x", value[:-1], value.upper(), value + " ", " " + value, value + "\n", (value,))
+    elif isinstance(value, tuple):
+        yield list(value)
+        yield value + (None,)
+        for at, item in enumerate(value):
+            before, after = value[:at], value[at + 1:]
+            yield before + after
+            yield before + (item, item) + after
+            for other in near_values(item):
+                yield before + (other,) + after
+
+
+def check_judge(case, judge, values, oracle):
+    """Compare a judge with an oracle over the values and the values near them."""
+    seen = 0
+    for value in values:
+        case.assertIs(judge(value), True, value)
+        for other in itertools.chain([value], near_values(value)):
+            before = copy.deepcopy(other)
+            told = judge(other)
+            case.assertIs(told, bool(oracle(other)), other)
+            case.assertEqual(repr(before), repr(other))
+            seen += 1
+    case.assertGreater(seen, len(ODD_VALUES))
+
+
+def plain_int(value):
+    return type(value) is int
+
+
+def moment_oracle(value):
+    """What point 10 says of a moment, with the library's fractions."""
+    if type(value) is not tuple or len(value) != 2 or not all(map(plain_int, value)):
+        return False
+    if value[0] < 0 or value[1] < 1:
+        return False
+    return Fraction(value[0], value[1]).denominator == value[1]
+
+
+def edge_oracle(value):
+    if type(value) is not tuple or len(value) != 2 or not all(map(plain_int, value)):
+        return False
+    return value[1] == 0 or value[1] == 1
+
+
+def span_oracle(value):
+    if type(value) is not tuple or len(value) != 2 or not edge_oracle(value[0]) or value[0][0] < 0:
+        return False
+    if value[1] is None:
+        return True
+    if not edge_oracle(value[1]):
+        return False
+    gap = value[1][0] - value[0][0]
+    return gap > 0 or (gap == 0 and value[0][1] + value[1][1] == 2)
+
+
+def table_oracle(value):
+    if type(value) is not tuple or len(value) < 2:
+        return False
+    return all(type(row) is tuple and len(row) == len(value) and all(cap is None or edge_oracle(cap) for cap in row)
+               for row in value)
+
+
+def fraction(moment):
+    return Fraction(moment[0], moment[1])
+
+
+def as_moment(number):
+    number = Fraction(number)
+    return number.numerator, number.denominator
+
+
+def in_span_oracle(moment, span):
+    value, (low, high) = fraction(moment), span
+    if value < low[0] or (value == low[0] and low[1] == 0):
+        return False
+    return high is None or value < high[0] or (value == high[0] and high[1] == 1)
+
+
+def allowed(cap, difference):
+    """Does the cap allow the difference, a fraction?"""
+    return cap is None or difference < cap[0] or (difference == cap[0] and cap[1] == 1)
+
+
+def keeps_oracle(table, readings):
+    values = [Fraction(0)] + [fraction(reading) for reading in readings]
+    size = range(len(table))
+    return all(allowed(table[i][j], values[i] - values[j]) for i in size for j in size)
+
+
+def grid(clocks, parts, until):
+    """All readings whose parts of an hour are multiples of one hour divided by parts, up to until hours."""
+    moments = [as_moment(Fraction(number, parts)) for number in range(until * parts + 1)]
+    return list(itertools.product(moments, repeat=clocks))
+
+
+def seeded(seed):
+    return random.Random(seed)
+
+
+def random_cap(chance, low, high):
+    return chance.randint(low, high), chance.randint(0, 1)
+
+
+def random_table(chance, clocks, low=-3, high=3, filled=None):
+    """A table with some caps, most of them None."""
+    share = chance.choice((1, 2, 3)) if filled is None else filled
+    size = range(clocks + 1)
+    return tuple(tuple(random_cap(chance, low, high) if chance.randint(0, 4) < share else None for _ in size)
+                 for _ in size)
+
+
+def random_tables(seed, count, most_clocks=3, low=-3, high=3):
+    chance = seeded(seed)
+    return [random_table(chance, chance.randint(1, most_clocks), low, high) for _ in range(count)]
+
+
+def random_span(chance, until=4):
+    while True:
+        low = (chance.randint(0, until), chance.randint(0, 1))
+        high = None if chance.randint(0, 3) == 0 else (chance.randint(0, until), chance.randint(0, 1))
+        if span_oracle((low, high)):
+            return low, high
+
+
+def effective(table, i, j):
+    """The effective cap of point 21."""
+    cap = table[i][j]
+    if i == j or i == 0:
+        return min(cap, (0, 1)) if cap is not None else (0, 1)
+    return cap
+
+
+def sum_oracle(table, numbers):
+    """The sum of the effective caps along the numbers."""
+    limit, reach = 0, 1
+    for a, b in zip(numbers, numbers[1:]):
+        cap = effective(table, a, b)
+        if cap is None:
+            return None
+        limit, reach = limit + cap[0], reach * cap[1]
+    return limit, reach
+
+
+def simple_ways(size, i, j):
+    """All tuples of different numbers from i to j; for equal ones, those that end where they begin."""
+    others = [number for number in range(size) if number not in (i, j)]
+    for count in range(len(others) + 1):
+        for between in itertools.permutations(others, count):
+            yield (i, *between, j)
+
+
+def shut_oracle(table):
+    """The shut table by trying all ways that name no number twice, or None."""
+    size = len(table)
+    for i in range(size):
+        for ring in simple_ways(size, i, i):
+            total = sum_oracle(table, ring)
+            if total is not None and total < (0, 1):
+                return None
+    rows = []
+    for i in range(size):
+        row = []
+        for j in range(size):
+            totals = [sum_oracle(table, way) for way in simple_ways(size, i, j)] if i != j else [(0, 1)]
+            row.append(min([total for total in totals if total is not None], default=None))
+        rows.append(tuple(row))
+    return tuple(rows)

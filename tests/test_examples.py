@@ -1,0 +1,66 @@
+"""The examples of the document, word for word."""
+
+import doctest
+import unittest
+
+from bellrest.moments import moment_text, read_moment
+from bellrest.shutting import is_shut, shut
+from bellrest.spans import read_span, span_text
+
+ROWS = {
+    "moments": """
+>>> from bellrest.moments import moment, added, whole_and_part
+>>> added(moment(6, 4), (1, 3), (1, 6))
+(2, 1)
+>>> whole_and_part((7, 2))
+(3, (1, 2))
+""",
+    "spans": """
+>>> from bellrest.spans import span, span_meet, hour_span
+>>> span_meet(span(1, 4, high_reach=0), span(2, low_reach=0))
+((2, 0), (4, 0))
+>>> hour_span(3, "up")
+((2, 0), (3, 1))
+""",
+    "shutting": """
+>>> from bellrest.tables import table_with
+>>> from bellrest.shutting import shut, ring, way
+>>> shut(table_with(2, (1, 2, (1, 1)), (2, 0, (3, 0))))
+(((0, 1), (0, 1), (0, 1)), ((4, 0), (0, 1), (1, 1)), ((3, 0), (3, 0), (0, 1)))
+>>> way(table_with(2, (1, 2, (1, 1)), (2, 0, (3, 0))), 1, 0)
+(1, 2, 0)
+""",
+}
+
+
+class TestRows(unittest.TestCase):
+    def test_rows(self):
+        for name, text in ROWS.items():
+            example = doctest.DocTestParser().get_doctest(text, {}, name, None, 0)
+            told = []
+            result = doctest.DocTestRunner(verbose=False).run(example, out=told.append)
+            self.assertEqual(result.failed, 0, "".join(told))
+            self.assertEqual(result.attempted, text.count(">>>"))
+
+
+class TestPoints(unittest.TestCase):
+    def test_10(self):
+        self.assertEqual(moment_text((7, 2)), "7/2")
+        self.assertEqual(moment_text((3, 1)), "3")
+        self.assertEqual(read_moment("7/2"), (7, 2))
+        self.assertEqual(read_moment("3"), (3, 1))
+
+    def test_12(self):
+        for text, value in (("[2,5)", ((2, 1), (5, 0))), ("(0,7]", ((0, 0), (7, 1))), ("(0,)", ((0, 0), None))):
+            self.assertEqual(read_span(text), value)
+            self.assertEqual(span_text(value), text)
+
+    def test_22(self):
+        table = ((None, (-1, 0)), ((4, 1), None))
+        self.assertEqual(shut(table), (((0, 1), (-1, 0)), ((4, 1), (0, 1))))
+        self.assertIs(is_shut(shut(table)), True)
+        self.assertIs(is_shut(table), False)
+
+
+if __name__ == "__main__":
+    unittest.main()
