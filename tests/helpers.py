@@ -198,3 +198,118 @@ def shut_oracle(table):
             row.append(min([total for total in totals if total is not None], default=None))
         rows.append(tuple(row))
     return tuple(rows)
+
+
+def keeps_scaled(table, values, parts):
+    """keeps_oracle for readings that are given as integers: multiples of one hour divided by parts."""
+    whole = (0, *values)
+    for first, row in zip(whole, table):
+        for second, cap in zip(whole, row):
+            if cap is not None:
+                excess = first - second - cap[0] * parts
+                if excess > 0 or (excess == 0 and cap[1] == 0):
+                    return False
+    return min(whole) >= 0
+
+
+DOOR_TEXT = """gate door
+clocks x
+state shut
+state ajar x<=2
+step shut push ajar when x[1,) restart x
+step ajar bell shut
+"""
+
+
+def door():
+    from bellrest.gates import Gate
+    return Gate("door", ("x",), (("shut", ()), ("ajar", (("x", (2, 1)),))),
+                (("shut", "push", (("x", ((1, 1), None)),), ("x",), "ajar"), ("ajar", "bell", (), (), "shut")))
+
+
+def random_gate_parts(chance, most_limit=3):
+    """The parts of a small gate with few deeds, so that rows often have several paths."""
+    clocks = ("x", "y.z")[:chance.randint(1, 2)]
+    names = ("go", "wait", "rest.now")[:chance.randint(1, 3)]
+    states = []
+    for name in names:
+        stay = tuple((clock, (chance.randint(1, most_limit), chance.randint(0, 1)))
+                     for clock in clocks if chance.randint(0, 2) == 0)
+        states.append((name, stay))
+    steps = []
+    for _ in range(chance.randint(0, 6)):
+        test = tuple((clock, random_span(chance, most_limit)) for clock in clocks if chance.randint(0, 1))
+        restarts = tuple(clock for clock in clocks if chance.randint(0, 1))
+        steps.append((chance.choice(names), chance.choice(("push", "bell")), test, restarts, chance.choice(names)))
+    also = ("creak",) if chance.randint(0, 3) == 0 else ()
+    return "gate.one", clocks, tuple(states), tuple(steps), also
+
+
+def random_gates(seed, count):
+    from bellrest.gates import Gate
+    chance = seeded(seed)
+    return [Gate(*random_gate_parts(chance)) for _ in range(count)]
+
+
+def random_row(chance, length, parts=2, until=4, deeds=("push", "bell")):
+    moments = sorted(Fraction(chance.randint(0, until * parts), parts) for _ in range(length))
+    return tuple((as_moment(moment), chance.choice(deeds)) for moment in moments)
+
+
+class Walk:
+    """A gate that is led by hand, with fractions: what points 31, 33 and 34 say, one by one."""
+
+    def __init__(self, gate):
+        self.gate = gate
+        self.state = gate.states[0][0]
+        self.readings = {clock: Fraction(0) for clock in gate.clocks}
+
+    def stays(self):
+        stay = dict(self.gate.states)[self.state]
+        return all(allowed(edge, self.readings[clock]) for clock, edge in stay)
+
+    def rest(self, rest):
+        for clock in self.readings:
+            self.readings[clock] += rest
+        return self.stays()
+
+    def meets(self, test):
+        return all(in_span_oracle(as_moment(self.readings[clock]), span) for clock, span in test)
+
+    def step(self, index, deed):
+        source, own, test, restarts, target = self.gate.steps[index]
+        if source != self.state or own != deed or not self.meets(test):
+            return False
+        for clock in restarts:
+            self.readings[clock] = Fraction(0)
+        self.state = target
+        return self.stays()
+
+    def standing(self):
+        return self.state, tuple(as_moment(self.readings[clock]) for clock in self.gate.clocks)
+
+
+def walked(gate, run):
+    """The number of entries of the run that are let, and the Walk at its end, or None if it is not let."""
+    row, path, rest = run
+    walk = Walk(gate)
+    now = Fraction(0)
+    for index, ((moment, deed), step) in enumerate(zip(row, path)):
+        if not (walk.rest(fraction(moment) - now) and walk.step(step, deed)):
+            return index, None
+        now = fraction(moment)
+    return len(row), walk if walk.rest(fraction(rest)) else None
+
+
+def paths_oracle(gate, row):
+    """All paths of the row, by trying all tuples of steps."""
+    found = []
+    for path in itertools.product(range(len(gate.steps)), repeat=len(row)):
+        if walked(gate, (row, path, (0, 1)))[1] is not None:
+            found.append(path)
+    return tuple(found)
+
+
+def since_oracle(first, second):
+    """The second moment minus the first one, which may be later."""
+    return fraction(second) - fraction(first)

@@ -531,6 +531,81 @@ def modified_lists(body):
                     yield node.value.id
 
 
+# What these methods and the functions that they call do must change nothing that they did not create.
+CHANGING_METHODS = ("__init__", "__enter__", "__exit__", "__call__", "__setitem__", "__iter__")
+
+
+def pure_roots(package):
+    """The operators and properties of the package, with their files."""
+    for file, tree in package.trees.items():
+        for node in tree.body:
+            for part in node.body if isinstance(node, ast.ClassDef) else ():
+                if isinstance(part, ast.FunctionDef):
+                    operator = part.name.startswith("__") and part.name not in CHANGING_METHODS
+                    marked = any(isinstance(mark, ast.Name) and mark.id == "property" for mark in part.decorator_list)
+                    if marked or (operator and not part.name.startswith("__i")):
+                        yield file, part
+
+
+def reached_functions(package):
+    """Pairs of a file and a function that an operator or a property calls, directly or not."""
+    by_name = {}
+    for file, tree in package.trees.items():
+        for node in tree.body:
+            if isinstance(node, ast.FunctionDef):
+                by_name.setdefault(node.name, []).append((file, node))
+            for part in node.body if isinstance(node, ast.ClassDef) else ():
+                if isinstance(part, ast.FunctionDef):
+                    name = node.name if part.name == "__init__" else part.name
+                    by_name.setdefault(name, []).append((file, part))
+    todo = list(pure_roots(package))
+    reached = []
+    while todo:
+        file, function = todo.pop()
+        if (file, function) not in reached:
+            reached.append((file, function))
+            for node in ast.walk(function):
+                if isinstance(node, ast.Call):
+                    name = node.func.id if isinstance(node.func, ast.Name) else getattr(node.func, "attr", "")
+                    todo.extend(by_name.get(name, ()))
+    return reached
+
+
+def created_names(function):
+    """The local names that are only ever assigned a list, dict or set that the function makes."""
+    made, other = set(), {arg.arg for arg in ast.walk(function) if isinstance(arg, ast.arg)}
+    for node in ast.walk(function):
+        if isinstance(node, ast.Assign):
+            fresh = isinstance(node.value, (ast.List, ast.Dict, ast.Set, ast.ListComp, ast.DictComp, ast.SetComp))
+            if isinstance(node.value, ast.Call) and isinstance(node.value.func, ast.Name):
+                fresh = node.value.func.id in ("list", "dict", "set", "sorted")
+            for target in node.targets:
+                if isinstance(target, ast.Name):
+                    (made if fresh else other).add(target.id)
+    return made - other
+
+
+def changes(package):
+    """What operators and properties change although they must not."""
+    changing = ("append", "clear", "extend", "insert", "pop", "remove", "reverse", "setdefault", "update", "sort", "add",
+                "discard")
+    for file, function in reached_functions(package):
+        created = created_names(function)
+        arguments = {arg.arg for arg in ast.walk(function) if isinstance(arg, ast.arg)}
+        for node in ast.walk(function):
+            changed = None
+            if isinstance(node, (ast.Attribute, ast.Subscript)) and not isinstance(node.ctx, ast.Load):
+                if not (function.name == "__init__" and isinstance(node.value, ast.Name) and node.value.id == "self"):
+                    changed = node.value
+            if isinstance(node, ast.Call):
+                if isinstance(node.func, ast.Attribute) and node.func.attr in changing:
+                    changed = node.func.value
+                if isinstance(node.func, ast.Name) and node.func.id in arguments:
+                    yield f"L5 {file}:{node.lineno} an operator or a property calls what it was passed"
+            if changed is not None and not (isinstance(changed, ast.Name) and changed.id in created):
+                yield f"L5 {file}:{node.lineno} an operator or a property changes what it did not create"
+
+
 def circles(package):
     """The files that import one another in a circle."""
     needs = {}
@@ -554,7 +629,7 @@ def circles(package):
 def faults_of_texts(name, texts):
     """The faults of a package with this name, whose files have these texts."""
     package = Package(name, texts)
-    found = circles(package)
+    found = circles(package) + list(changes(package))
     for file in texts:
         base = os.path.basename(file)[:-3]
         if not re.fullmatch(r"[a-z][a-z0-9_]*|__init__|__main__", base):

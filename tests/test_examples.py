@@ -3,9 +3,12 @@
 import doctest
 import unittest
 
+from bellrest.gates import Gate
 from bellrest.moments import moment_text, read_moment
+from bellrest.pathtables import path_table
 from bellrest.shutting import is_shut, shut
 from bellrest.spans import read_span, span_text
+from helpers import door
 
 ROWS = {
     "moments": """
@@ -29,6 +32,23 @@ ROWS = {
 (((0, 1), (0, 1), (0, 1)), ((4, 0), (0, 1), (1, 1)), ((3, 0), (3, 0), (0, 1)))
 >>> way(table_with(2, (1, 2, (1, 1)), (2, 0, (3, 0))), 1, 0)
 (1, 2, 0)
+""",
+    "lots": """
+>>> from bellrest.tables import table_with
+>>> from bellrest.lots import Lot
+>>> lot = Lot.everything(1) - Lot(1, table_with(1, (1, 0, (2, 1))))
+>>> (((2, 1),) in lot, ((5, 2),) in lot)
+(False, True)
+""",
+    "running": """
+>>> from bellrest.gates import Gate
+>>> from bellrest.running import standings, room
+>>> lines = ["gate door", "clocks x", "state shut", "state ajar x<=2", "step shut push ajar when x[1,) restart x", "step ajar bell shut", ""]
+>>> door = Gate.read("\\n".join(lines))
+>>> standings(door, (((3, 2), "push"), ((2, 1), "bell")))
+(('shut', ((1, 2),)),)
+>>> room(door, ("ajar", ((1, 2),)))
+((3, 2), 1)
 """,
 }
 
@@ -60,6 +80,22 @@ class TestPoints(unittest.TestCase):
         self.assertEqual(shut(table), (((0, 1), (-1, 0)), ((4, 1), (0, 1))))
         self.assertIs(is_shut(shut(table)), True)
         self.assertIs(is_shut(table), False)
+
+    def test_32(self):
+        door = Gate("door", ("x",), (("shut", ()), ("ajar", (("x", (2, 1)),))), (("shut", "push", (("x", ((1, 1), None)),), ("x",), "ajar"), ("ajar", "bell", (), (), "shut")))
+        text = """gate door
+clocks x
+state shut
+state ajar x<=2
+step shut push ajar when x[1,) restart x
+step ajar bell shut
+"""
+        self.assertEqual(door.text(), text)
+        self.assertEqual(Gate.read(text).text(), text)
+
+    def test_36(self):
+        table = (((0, 1), (-1, 1), (-1, 1)), (None, (0, 1), (0, 1)), (None, (2, 1), (0, 1)))
+        self.assertEqual(path_table(door(), (0,)), table)
 
 
 if __name__ == "__main__":

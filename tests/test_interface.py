@@ -56,7 +56,75 @@ is_way(table, i, j, cap, value)
 point(table)
 near(table, i, j, within)
 """,
+    "moves": """
+later(table)
+earlier(table)
+restart(table, clocks)
+release(table, clocks)
+cut(table, *tests)
+meet(first, *more)
+inside(one, other)
+widen(table, ceilings)
+""",
+    "names": """
+is_simple(value)
+is_name(value)
+""",
+    "running": """
+is_row(value)
+is_standing(gate, value)
+start(gate)
+room(gate, standing)
+rested(gate, standing, rest)
+steps_let(gate, standing)
+done(gate, standing, step)
+lets(gate, row)
+standings(gate, row)
+paths(gate, row)
+is_run(gate, value)
+standing_after(gate, run)
+""",
+    "pathtables": """
+path_table(gate, path, tests=())
+run_with(gate, path, moments)
+run_of(gate, path, tests=())
+""",
 }
+
+# For each class its module, its constructor, its methods, and arguments with the attributes that follow.
+CLASSES = {
+    "Lot": ("lots", "(self, clocks, *tables)", """
+__or__(self, other)
+__and__(self, other)
+__sub__(self, other)
+__contains__(self, readings)
+classmethod everything(cls, clocks)
+classmethod nothing(cls, clocks)
+tables(self)
+is_empty(self)
+example(self)
+missing(self, other)
+covers(self, other)
+later(self)
+earlier(self)
+restart(self, *clocks)
+release(self, *clocks)
+""", (3,), {"clocks": 3}),
+    "Gate": ("gates", "(self, name, clocks, states, steps, also=())", """
+property deeds(self)
+property ceilings(self)
+clock_number(self, clock)
+state_index(self, state)
+stay_of(self, state)
+steps_from(self, state)
+overlap(self)
+is_settled(self)
+text(self)
+staticmethod read(text)
+""", ("g", ("x",), (("s", ()),), (), ("push",)),
+        {"name": "g", "clocks": ("x",), "states": (("s", ()),), "steps": (), "also": ("push",)}),
+}
+KINDS = {"property": property, "classmethod": classmethod, "staticmethod": staticmethod}
 
 
 class TestFunctions(unittest.TestCase):
@@ -69,6 +137,28 @@ class TestFunctions(unittest.TestCase):
                     self.assertTrue(inspect.isfunction(function))
                     self.assertEqual(function.__name__ + str(inspect.signature(function)), line)
                     self.assertEqual(function.__module__, module.__name__)
+
+    def test_classes(self):
+        for name, (file, constructor, methods, arguments, attributes) in CLASSES.items():
+            module = importlib.import_module("bellrest." + file)
+            made = vars(module)[name]
+            self.assertEqual(made.__module__, module.__name__)
+            self.assertEqual(str(inspect.signature(vars(made)["__init__"])), constructor)
+            for line in methods.split("\n"):
+                if line:
+                    self.check_method(made, line)
+            thing = made(*arguments)
+            for attribute, value in attributes.items():
+                self.assertEqual(vars(thing)[attribute], value)
+
+    def check_method(self, made, line):
+        kind, _, rest = line.partition(" ") if line.split(" ")[0] in KINDS else ("", "", line)
+        method = vars(made)[rest.partition("(")[0]]
+        if kind:
+            self.assertIs(type(method), KINDS[kind])
+            method = method.fget if kind == "property" else method.__func__
+        self.assertTrue(inspect.isfunction(method))
+        self.assertEqual(method.__name__ + str(inspect.signature(method)), rest)
 
     def test_the_package_binds_nothing(self):
         names = [name for name, value in vars(bellrest).items() if not name.startswith("__")]
