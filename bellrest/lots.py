@@ -29,7 +29,8 @@ class Lot:
 
     def __or__(self, other):
         check_clocks(self.clocks, other.clocks)
-        return Lot(self.clocks, *self._parts, *other._parts)
+        both = self._parts + other._parts
+        return Lot(self.clocks, *both)
 
     def __and__(self, other):
         check_clocks(self.clocks, other.clocks)

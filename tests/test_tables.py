@@ -14,13 +14,17 @@ CAPS = [None] + [(limit, reach) for limit in range(-2, 3) for reach in (0, 1)]
 DIFFERENCES = [Fraction(number, 2) for number in range(-10, 11)]
 
 
+def cap_oracle(value):
+    return value is None or edge_oracle(value)
+
+
 def allowed_differences(cap):
     return [difference for difference in DIFFERENCES if allowed(cap, difference)]
 
 
 class TestJudges(unittest.TestCase):
     def test_caps(self):
-        check_judge(self, is_cap, CAPS, lambda value: value is None or edge_oracle(value))
+        check_judge(self, is_cap, CAPS, cap_oracle)
         for value in ((0, 2), (True, 0), (0, False), [0, 1], (0,), (0, 1, 0), (), "None", 0, False):
             self.assertIs(is_cap(value), False, value)
 
