@@ -313,3 +313,113 @@ def paths_oracle(gate, row):
 def since_oracle(first, second):
     """The second moment minus the first one, which may be later."""
     return fraction(second) - fraction(first)
+
+
+def kind_oracle(readings, ceilings):
+    """The kind of point 40, with fractions."""
+    values = {clock: fraction(reading) for clock, reading in enumerate(readings, 1)}
+    near = {clock: value for clock, value in values.items() if value <= ceilings[clock - 1]}
+    wholes = tuple(int(value) if clock in near else ceilings[clock - 1] + 1 for clock, value in values.items())
+    parts = sorted({value - int(value) for value in near.values()} | {Fraction(0)})
+    order = tuple(tuple(clock for clock in sorted(near) if near[clock] - int(near[clock]) == part) for part in parts)
+    return wholes, order
+
+
+def all_kinds(ceilings):
+    """All kinds over the ceilings, ascending, from a grid that meets each of them."""
+    parts = len(ceilings) + 1
+    axes = [[Fraction(k, parts) for k in range((ceiling + 1) * parts + 1)] for ceiling in ceilings]
+    readings = [tuple(map(as_moment, values)) for values in itertools.product(*axes)]
+    return sorted({kind_oracle(one, ceilings) for one in readings})
+
+
+def advanced(readings, rest):
+    return tuple(as_moment(fraction(reading) + fraction(rest)) for reading in readings)
+
+
+def following_kinds(readings, ceilings):
+    """The kinds that follow when the clocks advance, the present one first, each once."""
+    events = {Fraction(0)}
+    for reading, ceiling in zip(readings, ceilings):
+        events.update(whole - fraction(reading) for whole in range(ceiling + 1) if whole >= fraction(reading))
+    times = sorted(events)
+    between = [(one + other) / 2 for one, other in zip(times, times[1:] + [times[-1] + 2])]
+    found = []
+    for time in sorted(times + between):
+        kind = kind_oracle(advanced(readings, as_moment(time)), ceilings)
+        if kind not in found:
+            found.append(kind)
+    return found
+
+
+def random_moment(chance, until=4, most=6):
+    parts = chance.randint(1, most)
+    return as_moment(Fraction(chance.randint(0, until * parts), parts))
+
+
+def moves_oracle(gate, spot):
+    """Pairs of a possible move at the spot and the spot after it, from some readings of the kind."""
+    state, kind = spot
+    walk = Walk(gate)
+    sample = next(one for one in sample_readings(gate.ceilings) if kind_oracle(one, gate.ceilings) == kind)
+    found = []
+    for move in ("rest", *range(len(gate.steps))):
+        walk.state = state
+        walk.readings = dict(zip(gate.clocks, map(fraction, sample)))
+        if move == "rest":
+            after = (following_kinds(sample, gate.ceilings) * 2)[1]
+            rested = next(one for one in sample_readings(gate.ceilings) if kind_oracle(one, gate.ceilings) == after)
+            walk.readings = dict(zip(gate.clocks, map(fraction, rested)))
+            possible = walk.stays()
+        else:
+            possible = walk.step(move, gate.steps[move][1])
+        if possible:
+            found.append((move, (walk.state, kind_oracle(walk.standing()[1], gate.ceilings))))
+    return found
+
+
+def sample_readings(ceilings):
+    """Readings that meet every kind over the ceilings."""
+    parts = len(ceilings) + 1
+    axes = [[as_moment(Fraction(k, parts)) for k in range((ceiling + 1) * parts + 1)] for ceiling in ceilings]
+    return itertools.product(*axes)
+
+
+def stay_holds_oracle(gate, state, kind):
+    """Does the stay hold for readings of the kind?"""
+    walk = Walk(gate)
+    walk.state = state
+    sample = next(one for one in sample_readings(gate.ceilings) if kind_oracle(one, gate.ceilings) == kind)
+    walk.readings = dict(zip(gate.clocks, map(fraction, sample)))
+    return walk.stays()
+
+
+def all_spots(gate):
+    """All spots of the gate, in their order."""
+    return [(state, kind) for state, _ in gate.states for kind in all_kinds(gate.ceilings)
+            if stay_holds_oracle(gate, state, kind)]
+
+
+def first_spot(gate):
+    clocks = len(gate.clocks)
+    return gate.states[0][0], ((0,) * clocks, (tuple(range(1, clocks + 1)),))
+
+
+def spots_by_distance(gate):
+    """The least number of moves to each met spot."""
+    found = {first_spot(gate): 0}
+    queue = [first_spot(gate)]
+    for spot in queue:
+        for _, after in moves_oracle(gate, spot):
+            if after not in found:
+                found[after] = found[spot] + 1
+                queue.append(after)
+    return found
+
+
+def raised(case, error, function, *arguments):
+    """The attributes of the error of exactly this class that the call raises."""
+    with case.assertRaises(error) as caught:
+        function(*arguments)
+    case.assertIs(type(caught.exception), error)
+    return vars(caught.exception)

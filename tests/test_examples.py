@@ -50,13 +50,27 @@ ROWS = {
 >>> room(door, ("ajar", ((1, 2),)))
 ((3, 2), 1)
 """,
+    "kinds": """
+>>> from bellrest.kinds import kind_of, rests_of
+>>> kind_of(((1, 2), (5, 3), (4, 1)), (2, 2, 1))
+((0, 1, 2), ((), (1,), (2,)))
+>>> list(rests_of(((0,), ((1,),)), (1,)))
+[((0,), ((1,),)), ((0,), ((), (1,))), ((1,), ((1,),)), ((2,), ((),))]
+""",
+    "watchers": """
+>>> from bellrest.watchers import label, pace
+>>> (label(0), label(25), label(26))
+('a', 'z', 'ba')
+>>> pace("calm", ((1, 1), None), ("push", "bell")).steps
+(('go', 'bell', (('c', ((1, 1), None)),), ('c',), 'go'), ('go', 'push', (('c', ((1, 1), None)),), ('c',), 'go'))
+""",
 }
 
 
 class TestRows(unittest.TestCase):
     def test_rows(self):
         for name, text in ROWS.items():
-            example = doctest.DocTestParser().get_doctest(text, {}, name, None, 0)
+            example = doctest.DocTestParser().get_doctest(text, {"door": door()}, name, None, 0)
             told = []
             result = doctest.DocTestRunner(verbose=False).run(example, out=told.append)
             self.assertEqual(result.failed, 0, "".join(told))

@@ -5,6 +5,7 @@ import inspect
 import unittest
 
 import bellrest
+from helpers import door
 
 FUNCTIONS = {
     "moments": """
@@ -89,7 +90,48 @@ path_table(gate, path, tests=())
 run_with(gate, path, moments)
 run_of(gate, path, tests=())
 """,
+    "kinds": """
+kind_of(readings, ceilings)
+is_kind(ceilings, value)
+sample(kind, ceilings)
+next_kind(kind, ceilings)
+rests_of(kind, ceilings)
+kind_in(kind, ceilings, clock, span)
+restart_kind(kind, clocks)
+answer(readings, rest, other, ceilings)
+""",
+    "kindtables": """
+kind_table(kind, ceilings)
+kinds_of(table, ceilings)
+each_kind(ceilings)
+count_kinds(ceilings)
+""",
+    "spots": """
+spot_of(gate, standing)
+is_spot(gate, value)
+spot_rest(gate, spot)
+spot_steps(gate, spot)
+spot_after(gate, spot, step)
+met_spots(gate)
+is_closed_spots(gate, value)
+moves_to(gate, spot)
+run_of_moves(gate, moves)
+""",
+    "watchers": """
+label(index)
+pace(name, span, deeds)
+window(name, span, deeds)
+ban(name, deeds)
+turns(name, deeds)
+""",
+    "goals": """
+is_goal(gate, value)
+meets(gate, goal, standing)
+goal_ceilings(gate, goal)
+""",
 }
+
+DOOR = door()
 
 # For each class its module, its constructor, its methods, and arguments with the attributes that follow.
 CLASSES = {
@@ -123,6 +165,13 @@ text(self)
 staticmethod read(text)
 """, ("g", ("x",), (("s", ()),), (), ("push",)),
         {"name": "g", "clocks": ("x",), "states": (("s", ()),), "steps": (), "also": ("push",)}),
+    "Hall": ("halls", "(self, *gates)", """
+property deeds(self)
+owners(self, deed)
+joined(self)
+view(self, row, name)
+lets(self, row)
+""", (DOOR,), {"gates": (DOOR,)}),
 }
 KINDS = {"property": property, "classmethod": classmethod, "staticmethod": staticmethod}
 
