@@ -343,8 +343,10 @@ class FileCheck:
                 self.fault("L23", node, "not iterated at once")
 
     def check_builtin_call(self, node, name):
-        if name in ("bytes", "chr", "super", "print"):
+        if name in ("bytes", "chr", "print"):
             self.fault("L8", node, f"a call of {name}")
+        if name == "super" and (node.args or not isinstance(self.parents[node], ast.Attribute) or self.method_around(node) is None):
+            self.fault("L5", node, "super out of place")
         if name in BUILTINS and name not in self.imports:
             for keyword in node.keywords:
                 if keyword.arg not in BUILTIN_KEYWORDS.get(name, ()):
@@ -364,6 +366,22 @@ class FileCheck:
             return isinstance(node.func, ast.Name) and node.func.id == "range"
         return self.stands_in_call(node, TAKES_ZIPS)
 
+    def method_around(self, node):
+        """The name of the method in whose rows the node stands directly, or None."""
+        while not isinstance(node, (ast.FunctionDef, ast.Lambda, ast.Module, *COMPREHENSIONS)):
+            node = self.parents[node]
+        in_class = isinstance(node, ast.FunctionDef) and isinstance(self.parents[node], ast.ClassDef)
+        return node.name if in_class and not node.decorator_list else None
+
+    def is_base_call(self, node):
+        """Is the attribute the constructor of a base class, called in a constructor?"""
+        parent = self.parents[node]
+        if node.attr != "__init__" or not (isinstance(parent, ast.Call) and parent.func is node):
+            return False
+        above = node.value.func if isinstance(node.value, ast.Call) else node.value
+        named = isinstance(above, ast.Name) and (above.id == "super" or above.id in self.classes | set(self.imports))
+        return named and self.method_around(node) == "__init__"
+
     # Names.
 
     def check_names(self, node):
@@ -379,7 +397,7 @@ class FileCheck:
         if isinstance(node, ast.ExceptHandler) and node.name:
             self.check_bound(node, node.name)
         if isinstance(node, ast.Attribute):
-            if node.attr in NEVER_NAMES or node.attr.startswith("__"):
+            if node.attr in NEVER_NAMES or (node.attr.startswith("__") and not self.is_base_call(node)):
                 self.fault("L17", node, f"the attribute {node.attr}")
             if isinstance(node.ctx, ast.Store) and node.attr in NOT_ATTRIBUTES:
                 self.fault("L26", node, f"the attribute {node.attr}")

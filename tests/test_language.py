@@ -35,6 +35,14 @@ class Box:
         return sorted([row for row in self.rows if row in LIMIT], key=lambda row: row)
 
 
+class Small(Box):
+    def __init__(self, rows):
+        super().__init__(rows[:1])
+
+    def told(self):
+        return super().told()
+
+
 def work(numbers, *more, last=1):
     """Some work."""
     seen = set()
@@ -117,6 +125,10 @@ BAD = [
     ("L21", "def f(x: int):\n    return x\n"),
     ("L21", "def f(x) -> int:\n    return x\n"),
     ("L21", " x: int = 5\n"),
+    ("L5", " return super().told()\n"),
+    ("L5", "class A:\n    def told(self):\n        return [super().told() for _ in self]\n"),
+    ("L17", "class A:\n    def told(self):\n        return self.__init__()\n"),
+    ("L17", "class A:\n    def told(self):\n        return super().__init__()\n"),
     ("L22", " return sorted(k, cmp=k)\n"),
     ("L22", " return list(map(len, k)) + [len]\n"),
     ("L22", " return 'a b'.split(sep=' ')\n"),

@@ -1,0 +1,67 @@
+"""Sets of standings: a state with a table of readings, and where rests and steps lead from there."""
+
+from bellrest.moves import cut, inside, later, restart, widen
+from bellrest.tables import all_zero
+
+
+def number_test(gate, test):
+    """The test with clock numbers in place of the clocks' names."""
+    return [(gate.clock_number(clock), span) for clock, span in test]
+
+
+def stay_test(gate, state):
+    """The stay of the state as a test with clock numbers."""
+    return [(gate.clock_number(clock), ((0, 1), edge)) for clock, edge in gate.stay_of(state)]
+
+
+def meeting(gate, state, test, table):
+    """The shut table of the readings for which the stay of the state and the test hold, or None."""
+    wanted = stay_test(gate, state) + number_test(gate, test)
+    return cut(table, *wanted)
+
+
+def resting(gate, state, table):
+    """The shut table of the readings after all rests for which the stay holds, or None."""
+    return meeting(gate, state, (), later(table))
+
+
+def stepping(gate, table, step):
+    """The shut table of the readings directly after the step from readings of the table, or None."""
+    source, _, test, restarts, target = gate.steps[step]
+    zeroed = restart(meeting(gate, source, test, table), [gate.clock_number(clock) for clock in restarts])
+    return meeting(gate, target, (), zeroed)
+
+
+def each_zone(gate, ceilings, ends=()):
+    """All zones: triples of a state, a table and a path, paths with fewer steps first.
+
+    The table has all readings to which runs with this path lead, and more readings only of kinds
+    that such runs lead to. Left out are zones that lie in one that came before. From the states
+    in ends no step is followed.
+    """
+    state, _ = gate.states[0]
+    latest = [(state, rested_zone(gate, ceilings, state, all_zero(len(gate.clocks))), ())]
+    known = {state: [] for state, _ in gate.states}
+    while latest:
+        fresh = []
+        for state, table, path in latest:
+            if not any(inside(table, other) for other in known[state]):
+                known[state].append(table)
+                fresh.append((state, table, path))
+                yield state, table, path
+        latest = [zone for state, table, path in fresh if state not in ends
+                  for zone in zones_after(gate, ceilings, state, table, path)]
+
+
+def zones_after(gate, ceilings, state, table, path):
+    """The zones after one more step."""
+    pairs = [(step, stepping(gate, table, step)) for step in gate.steps_from(state)]
+    return [(gate.steps[step][4], rested_zone(gate, ceilings, gate.steps[step][4], after), (*path, step))
+            for step, after in pairs if after is not None]
+
+
+def rested_zone(gate, ceilings, state, table):
+    """The widened table of the readings after all rests."""
+    # No limit of a stay is above its ceiling, so widening keeps what the stay says. Therefore
+    # further rests, as long as the stay holds, lead nowhere but to readings of this table.
+    return widen(resting(gate, state, table), ceilings)
