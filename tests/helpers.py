@@ -1,6 +1,7 @@
 """What several test files need: values near a value, grids of readings, random tables."""
 
 import copy
+import functools
 import itertools
 import random
 from fractions import Fraction
@@ -423,3 +424,124 @@ def raised(case, error, function, *arguments):
         function(*arguments)
     case.assertIs(type(caught.exception), error)
     return vars(caught.exception)
+
+
+def is_shut_oracle(value):
+    return table_oracle(value) and shut_oracle(value) == value
+
+
+def end_of(run):
+    """The end of the run, as a fraction."""
+    row, _, rest = run
+    return (fraction(row[-1][0]) if row else 0) + fraction(rest)
+
+
+def random_goal(chance, gate, most=4):
+    state = chance.choice([None] + [name for name, _ in gate.states])
+    return state, tuple((clock, random_span(chance, most)) for clock in gate.clocks if chance.randint(0, 1))
+
+
+@functools.lru_cache(maxsize=None)
+def connected_tables(gate, most):
+    """The tables of all paths with at most so many steps that some run has, by path; short ones first."""
+    from bellrest.pathtables import path_table
+    found = {(): path_table(gate, ())}
+    paths = [()]
+    for _ in range(most):
+        longer = {}
+        for path in paths:
+            for step in range(len(gate.steps)):
+                table = path_table(gate, (*path, step))
+                if table is not None:
+                    longer[(*path, step)] = table
+        found.update(longer)
+        paths = list(longer)
+    return found
+
+
+@functools.lru_cache(maxsize=None)
+def readings_by_kind(ceilings):
+    """Some readings of each kind over the ceilings."""
+    found = {}
+    for readings in sample_readings(ceilings):
+        found.setdefault(kind_oracle(readings, ceilings), readings)
+    return found
+
+
+def hand_moves_oracle(gate, ceilings, spot):
+    """Triples of a hand move, the hand spot after it and the hours counted, from some readings of the kind."""
+    state, kind = spot
+    tops = (*ceilings, 1)
+    sample = readings_by_kind(tops)[kind]
+    after = (following_kinds(sample, tops) * 2)[1]
+    found = []
+    for move in ("rest", *range(len(gate.steps))):
+        walk = Walk(gate)
+        walk.state = state
+        *readings, hand = map(fraction, readings_by_kind(tops)[after] if move == "rest" else sample)
+        walk.readings = dict(zip(gate.clocks, readings))
+        if walk.stays() if move == "rest" else walk.step(move, gate.steps[move][1]):
+            hours = int(hand)
+            after_readings = (*walk.standing()[1], as_moment(hand - hours))
+            found.append((move, (walk.state, kind_oracle(after_readings, tops)), hours))
+    return found
+
+
+def all_hand_spots(gate, ceilings):
+    """All hand spots over the ceilings, ordered by the index of the state and the kind."""
+    found = []
+    for state, _ in gate.states:
+        for kind, readings in sorted(readings_by_kind((*ceilings, 1)).items()):
+            walk = Walk(gate)
+            walk.state = state
+            walk.readings = dict(zip(gate.clocks, map(fraction, readings)))
+            if kind[0][-1] == 0 and walk.stays():
+                found.append((state, kind))
+    return found
+
+
+def least_hours(gate, ceilings):
+    """The least hours for each hand spot that is met, in any order."""
+    clocks = len(ceilings) + 1
+    first = (gate.states[0][0], ((0,) * clocks, (tuple(range(1, clocks + 1)),)))
+    best = {first: 0}
+    todo = [first]
+    while todo:
+        spot = todo.pop(0)
+        for _, after, hours in hand_moves_oracle(gate, ceilings, spot):
+            if after not in best or best[after] > best[spot] + hours:
+                best[after] = best[spot] + hours
+                todo.append(after)
+    return best
+
+
+def goal_oracle(gate, value):
+    if type(value) is not tuple or len(value) != 2:
+        return False
+    state, test = value
+    if state is not None and not (type(state) is str and state in [name for name, _ in gate.states]):
+        return False
+    if type(test) is not tuple or not all(type(pair) is tuple and len(pair) == 2 for pair in test):
+        return False
+    names = [pair[0] for pair in test]
+    if not all(type(name) is str and name in gate.clocks and names.count(name) == 1 for name in names):
+        return False
+    return all(span_oracle(pair[1]) for pair in test)
+
+
+def wrong_goals(gate, *goals):
+    """Values that are no goals of the gate, most of them near one of the goals."""
+    values = list(ODD_VALUES) + [near for goal in goals for near in near_values(goal)]
+    return [value for value in values if not goal_oracle(gate, value)]
+
+
+def simple_oracle(value):
+    return type(value) is str and 1 <= len(value) <= 12 and all("a" <= sign <= "z" for sign in value)
+
+
+def fits_oracle(entries, hidden, row, window=None):
+    """Points 70 and 71: does the row fit?"""
+    seen = [entry for entry in row if window is None or in_span_oracle(entry[0], window)]
+    seen = [entry for entry in seen if entry[1] not in hidden]
+    return len(seen) == len(entries) and all(
+        in_span_oracle(moment, span) and deed == name for (moment, deed), (span, name) in zip(seen, entries))

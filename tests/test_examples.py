@@ -64,6 +64,22 @@ ROWS = {
 >>> pace("calm", ((1, 1), None), ("push", "bell")).steps
 (('go', 'bell', (('c', ((1, 1), None)),), ('c',), 'go'), ('go', 'push', (('c', ((1, 1), None)),), ('c',), 'go'))
 """,
+    "timing": """
+>>> from bellrest.timing import soonest, first_span, between
+>>> soonest(door, ("ajar", (("x", ((1, 0), None)),)))
+(2, 0)
+>>> first_span(door, "push")
+((1, 1), None)
+>>> between(door, "push", "bell")
+((0, 1), (2, 1))
+""",
+    "sights": """
+>>> from bellrest.sights import RoundedSight, WindowSight
+>>> RoundedSight(((1, "push"), (2, "bell")), ("creak",)).text()
+'rounded down: [1,2) push, [2,3) bell hiding creak'
+>>> WindowSight(((2, 1), (3, 1)), ()).fits((((1, 1), "push"), ((4, 1), "bell")))
+True
+""",
 }
 
 

@@ -6,25 +6,11 @@ from bellrest.errors import InvalidGoal
 from bellrest.gates import Gate
 from bellrest.goals import goal_ceilings, is_goal, meets
 from helpers import (
-    ODD_VALUES, check_judge, door, grid, in_span_oracle, near_values, raised, random_gates, random_span, seeded, span_oracle)
+    check_judge, door, goal_oracle, grid, in_span_oracle, raised, random_gates, random_span, seeded, wrong_goals)
 
 LAMP = Gate("lamp", ("x", "y"), (("off", ()), ("on", (("y", (3, 0)),))),
             (("off", "push", (), ("y",), "on"), ("on", "creak", (("y", ((1, 1), (2, 1))),), (), "off")))
 GOALS = ((None, ()), ("on", ()), ("off", (("x", ((1, 0), None)),)), (None, (("y", ((5, 1), (5, 1))), ("x", ((0, 1), (1, 0))))))
-
-
-def goal_oracle(gate, value):
-    if type(value) is not tuple or len(value) != 2:
-        return False
-    state, test = value
-    if state is not None and not (type(state) is str and state in [name for name, _ in gate.states]):
-        return False
-    if type(test) is not tuple or not all(type(pair) is tuple and len(pair) == 2 for pair in test):
-        return False
-    names = [pair[0] for pair in test]
-    if not all(type(name) is str and name in gate.clocks and names.count(name) == 1 for name in names):
-        return False
-    return all(span_oracle(pair[1]) for pair in test)
 
 
 class TestJudge(unittest.TestCase):
@@ -74,10 +60,9 @@ class TestCeilings(unittest.TestCase):
 
 class TestErrors(unittest.TestCase):
     def test_wrong_goals(self):
-        for value in list(ODD_VALUES) + [near for goal in GOALS for near in near_values(goal)]:
-            if not goal_oracle(LAMP, value):
-                self.assertEqual(raised(self, InvalidGoal, meets, LAMP, value, ("off", ((0, 1), (0, 1)))), {"value": value})
-                self.assertEqual(raised(self, InvalidGoal, goal_ceilings, LAMP, value), {"value": value})
+        for value in wrong_goals(LAMP, *GOALS):
+            self.assertEqual(raised(self, InvalidGoal, meets, LAMP, value, ("off", ((0, 1), (0, 1)))), {"value": value})
+            self.assertEqual(raised(self, InvalidGoal, goal_ceilings, LAMP, value), {"value": value})
 
 
 if __name__ == "__main__":

@@ -129,9 +129,41 @@ is_goal(gate, value)
 meets(gate, goal, standing)
 goal_ceilings(gate, goal)
 """,
+    "patches": """
+is_closed_patches(gate, value)
+avoids(gate, goal, patches)
+""",
+    "reach": """
+find(gate, goal)
+never(gate, goal)
+""",
+    "hands": """
+first_hand_spot(gate, ceilings)
+hand_rest(gate, ceilings, spot)
+hand_after(gate, spot, step)
+is_hours_table(gate, ceilings, value)
+hours_table(gate, goal)
+edge_from(gate, goal, table)
+""",
+    "timing": """
+soonest(gate, goal)
+soon_run(gate, goal, within)
+first_span(gate, deed)
+late_run(gate, deed, within)
+longest_without(gate, deed)
+between(gate, first, second)
+""",
+    "fitting": """
+watched(gate, sight)
+could(gate, sight)
+first_wrong(gate, sight)
+wrong_patches(gate, sight)
+states_after(gate, sight)
+""",
 }
 
 DOOR = door()
+SEEN = ((((1, 1), (2, 0)), "push"),)
 
 # For each class its module, its constructor, its methods, and arguments with the attributes that follow.
 CLASSES = {
@@ -172,6 +204,26 @@ joined(self)
 view(self, row, name)
 lets(self, row)
 """, (DOOR,), {"gates": (DOOR,)}),
+    "Sight": ("sights", "(self, entries, hidden=())", """
+fits(self, row)
+text(self)
+cut(self, count)
+watcher(self, name, deeds)
+""", (SEEN, ("hum",)), {"entries": SEEN, "hidden": ("hum",)}),
+    "RoundedSight": ("sights", "(self, hours, hidden=(), *, rounding='down')", """
+text(self)
+cut(self, count)
+""", (((1, "push"),),), {"entries": SEEN, "hidden": (), "hours": ((1, "push"),), "rounding": "down"}),
+    "BareSight": ("sights", "(self, names, hidden=())", """
+text(self)
+cut(self, count)
+""", (("push",),), {"entries": ((((0, 1), None), "push"),), "hidden": (), "names": ("push",)}),
+    "WindowSight": ("sights", "(self, window, entries, hidden=())", """
+fits(self, row)
+text(self)
+cut(self, count)
+watcher(self, name, deeds)
+""", (((0, 1), None), SEEN), {"entries": SEEN, "hidden": (), "window": ((0, 1), None)}),
 }
 KINDS = {"property": property, "classmethod": classmethod, "staticmethod": staticmethod}
 
@@ -208,6 +260,11 @@ class TestFunctions(unittest.TestCase):
             method = method.fget if kind == "property" else method.__func__
         self.assertTrue(inspect.isfunction(method))
         self.assertEqual(method.__name__ + str(inspect.signature(method)), rest)
+
+    def test_kinds_of_sights(self):
+        module = importlib.import_module("bellrest.sights")
+        for name in ("RoundedSight", "BareSight", "WindowSight"):
+            self.assertEqual(vars(module)[name].__bases__, (module.Sight,))
 
     def test_the_package_binds_nothing(self):
         names = [name for name, value in vars(bellrest).items() if not name.startswith("__")]
