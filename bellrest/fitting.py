@@ -30,7 +30,9 @@ def states_counted(joined, count):
 def seen_zones(joined, sight):
     """The zones of the watched gate up to the last entry of the sight."""
     # A fitting run ends with the last entry of the sight. So no step goes on from there.
-    return list(each_zone(joined, joined.ceilings, states_counted(joined, len(sight.entries))))
+    ceilings = joined.ceilings
+    ends = states_counted(joined, len(sight.entries))
+    return list(each_zone(joined, ceilings, ends))
 
 
 def could(gate, sight):
@@ -66,7 +68,8 @@ def wrong_patches(gate, sight):
     if index is None:
         return None
     joined = watched(gate, sight.cut(index + 1))
-    return tuple([(state, table) for state, table, _ in each_zone(joined, joined.ceilings)])
+    ceilings = joined.ceilings
+    return tuple([(state, table) for state, table, _ in each_zone(joined, ceilings)])
 
 
 def states_after(gate, sight):

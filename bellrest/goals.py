@@ -3,7 +3,7 @@
 from bellrest.errors import InvalidGoal
 from bellrest.forms import is_tuple_of
 from bellrest.gateforms import is_test
-from bellrest.running import test_holds
+from bellrest.running import has_state, test_holds
 
 
 def is_goal(gate, value):
@@ -11,9 +11,7 @@ def is_goal(gate, value):
     if not is_tuple_of(2, value):
         return False
     state, test = value
-    if state is not None and not any(state == name for name, _ in gate.states):
-        return False
-    return is_test(gate.clocks, test)
+    return (state is None or has_state(gate, state)) and is_test(gate.clocks, test)
 
 
 def check_goal(gate, goal):

@@ -127,21 +127,27 @@ def exact_edges(graph, weights):
 
 def marks_between(graph, start, ends):
     """The marks of a path with the fewest edges from the start to one of the ends, and that end; there is one."""
+    wanted = {end: True for end in ends}
     arrivals = {start: None}
     queue = [start]
     at = 0
     node = start
-    while node not in ends:
+    while node not in wanted:
         for target, _, mark in graph[node]:
             if target not in arrivals:
                 arrivals[target] = (node, mark)
                 queue.append(target)
         at += 1
         node = queue[at]
+    return marks_back(arrivals, node), node
+
+
+def marks_back(arrivals, node):
+    """The marks of the path to the node. Arrivals have for each node the one before it and the mark, or None."""
     marks = []
     arrival = arrivals[node]
     while arrival is not None:
         before, mark = arrival
         marks.append(mark)
         arrival = arrivals[before]
-    return list(reversed(marks)), node
+    return list(reversed(marks))

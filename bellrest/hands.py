@@ -6,6 +6,7 @@ from bellrest.goals import check_goal, goal_ceilings, is_goal_state
 from bellrest.graphs import least_weights
 from bellrest.kinds import is_kind, kind_after, restart_kind
 from bellrest.kindsteps import in_spot_order, kind_meets, kind_stays, step_in_kind, steps_in_kind
+from bellrest.running import has_state
 from bellrest.spans import low_order
 
 HAND_CEILING = 1
@@ -50,7 +51,7 @@ def is_hand_spot(gate, ceilings, value):
     if not is_tuple_of(2, value):
         return False
     state, kind = value
-    if not any(state == name for name, _ in gate.states) or not is_kind((*ceilings, HAND_CEILING), kind):
+    if not (has_state(gate, state) and is_kind((*ceilings, HAND_CEILING), kind)):
         return False
     return kind[0][-1] == 0 and kind_stays(gate, state, kind)
 

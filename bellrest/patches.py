@@ -3,6 +3,7 @@
 from bellrest.forms import is_tuple_of
 from bellrest.goals import check_goal, is_goal_state
 from bellrest.moves import caps_inside
+from bellrest.running import has_state
 from bellrest.shutting import is_shut
 from bellrest.tables import all_zero
 from bellrest.zones import meeting, resting, stepping
@@ -13,9 +14,7 @@ def is_patch(gate, value):
     if not is_tuple_of(2, value):
         return False
     state, table = value
-    if not any(state == name for name, _ in gate.states):
-        return False
-    return is_tuple_of(len(gate.clocks) + 1, table) and is_shut(table)
+    return has_state(gate, state) and is_tuple_of(len(gate.clocks) + 1, table) and is_shut(table)
 
 
 def is_closed_patches(gate, value):

@@ -37,14 +37,19 @@ def check_row(row):
         raise InvalidRow(index)
 
 
+def has_state(gate, value):
+    """Is the value the name of a state of the gate?"""
+    return any(value == name for name, _ in gate.states)
+
+
 def is_standing(gate, value):
     """Is the value a standing of the gate?"""
     if not is_tuple_of(2, value):
         return False
     state, readings = value
-    if not any(state == name for name, _ in gate.states):
+    if not (has_state(gate, state) and is_readings(len(gate.clocks), readings)):
         return False
-    return is_readings(len(gate.clocks), readings) and stay_holds(gate, state, readings)
+    return stay_holds(gate, state, readings)
 
 
 def stay_holds(gate, state, readings):

@@ -2,10 +2,11 @@
 
 from bellrest.errors import NotLet
 from bellrest.forms import is_tuple_of, is_whole
+from bellrest.graphs import marks_back
 from bellrest.kinds import is_kind, kind_after, kind_of, rest_to
 from bellrest.kindsteps import in_spot_order, kind_stays, step_in_kind, steps_in_kind
 from bellrest.moments import added, since
-from bellrest.running import after_rest, after_step, start
+from bellrest.running import after_rest, after_step, has_state, start
 
 
 def spot_of(gate, standing):
@@ -19,9 +20,7 @@ def is_spot(gate, value):
     if not is_tuple_of(2, value):
         return False
     state, kind = value
-    if not any(state == name for name, _ in gate.states):
-        return False
-    return is_kind(gate.ceilings, kind) and kind_stays(gate, state, kind)
+    return has_state(gate, state) and is_kind(gate.ceilings, kind) and kind_stays(gate, state, kind)
 
 
 def spot_rest(gate, spot):
@@ -92,15 +91,7 @@ def is_closed_spots(gate, value):
 def moves_to(gate, spot):
     """Some shortest tuple of moves that leads to the spot, or None if it is not met."""
     found = arrivals(gate, spot)
-    if spot not in found:
-        return None
-    moves = []
-    arrival = found[spot]
-    while arrival is not None:
-        before, move = arrival
-        moves.append(move)
-        arrival = found[before]
-    return tuple(reversed(moves))
+    return tuple(marks_back(found, spot)) if spot in found else None
 
 
 def run_of_moves(gate, moves):

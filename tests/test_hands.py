@@ -102,6 +102,16 @@ class TestTables(unittest.TestCase):
         self.assertIs(is_hours_table(gate, (1,), table), True)
         self.assertIs(is_hours_table(gate, (2,), table), False)
 
+    def test_every_item_has_the_stated_form(self):
+        # These hand spots have no moves, so nothing but their own form counts.
+        gate = Gate("g", ("x",), (("s", ()), ("t", (("x", (1, 1)),))), ())
+        table = hours_table(gate, (None, (("x", ((0, 1), (1, 1))),)))
+        last = ("t", ((1, 0), ((1, 2),)))
+        for item, told in (((last, 0), True), ((last, 10 ** 20), True), ((last, -1), False), ((last, True), False), ((last, None), False),
+                           ((("t", ((2, 0), ((2,),))), 3), False), ((("u", ((1, 0), ((1, 2),))), 3), False)):
+            self.assertIs(is_hours_table(gate, (1,), table + (item,)), told, item)
+            self.assertIs(hours_oracle(gate, (1,), table + (item,)), told)
+
     def test_the_hand_is_not_at_one(self):
         table = hours_table(SMALL, (None, ()))
         for kind in (((2, 1), ((2,),)), ((2, 2), ((),))):

@@ -197,6 +197,20 @@ class TestFirst(unittest.TestCase):
         self.assertGreaterEqual(len(run[0]), 200)
         self.check_late(BUSY, "ring", None, (401, 2))
 
+    def test_rounds_of_random_gates(self):
+        chance = seeded(70)
+        many = 0
+        for gate in random_gates(70, 400):
+            # In each state x must be set back, so that no rest is long.
+            states = tuple((name, (("x", (chance.randint(1, 2), chance.randint(0, 1))),)) for name, _ in gate.states)
+            busy = Gate("busy", gate.clocks, states, gate.steps, gate.also)
+            for deed in busy.deeds:
+                found = first_span(busy, deed)
+                if found is not None:
+                    self.check_late(busy, deed, found[1], (25, 2))
+                    many += found[1] is None
+        self.assertGreater(many, 20)
+
     def test_deeds_without_steps(self):
         gate = Gate("g", ("x",), (("s", ()),), (), ("push",))
         self.assertIsNone(first_span(gate, "push"))
