@@ -5,6 +5,25 @@ of the node that it leads to, its weight and a mark. Weights are 0 and 1.
 """
 
 
+def explored(starts, edges_of):
+    """The nodes to which edges lead from the starts, and the graph; the starts are different and come first.
+
+    edges_of is a function that gives the edges of a node, with nodes in place of their indexes.
+    """
+    nodes = list(starts)
+    places = {node: place for place, node in enumerate(starts)}
+    graph = []
+    while len(graph) < len(nodes):
+        edges = []
+        for target, weight, mark in edges_of(nodes[len(graph)]):
+            if target not in places:
+                places[target] = len(nodes)
+                nodes.append(target)
+            edges.append((places[target], weight, mark))
+        graph.append(edges)
+    return nodes, graph
+
+
 def least_weights(graph, starts):
     """For each node the least weight of a path from a start to it, or None if there is no path."""
     least = [None] * len(graph)

@@ -3,7 +3,7 @@
 from bellrest.errors import NotLet
 from bellrest.forms import is_tuple_of, is_whole
 from bellrest.goals import check_goal, goal_ceilings, is_goal_state
-from bellrest.graphs import least_weights
+from bellrest.graphs import explored, least_weights
 from bellrest.kinds import is_kind, kind_after, restart_kind
 from bellrest.kindsteps import in_spot_order, kind_meets, kind_stays, step_in_kind, steps_in_kind
 from bellrest.running import has_state
@@ -83,19 +83,13 @@ def hand_graph(gate, ceilings, starts, avoided):
 
     Steps with one of the avoided deeds are left out. The starts are different and come first.
     """
-    spots = list(starts)
-    places = {spot: place for place, spot in enumerate(starts)}
-    graph = []
-    while len(graph) < len(spots):
-        edges = []
-        for move, after, hours in hand_moves(gate, ceilings, spots[len(graph)]):
-            if move == "rest" or gate.steps[move][1] not in avoided:
-                if after not in places:
-                    places[after] = len(spots)
-                    spots.append(after)
-                edges.append((places[after], hours, move))
-        graph.append(edges)
-    return spots, graph
+    return explored(starts, lambda spot: hand_edges(gate, ceilings, spot, avoided))
+
+
+def hand_edges(gate, ceilings, spot, avoided):
+    """The hand spots after one move from the hand spot, with the hours and the moves; without the avoided deeds."""
+    return [(after, hours, move) for move, after, hours in hand_moves(gate, ceilings, spot)
+            if move == "rest" or gate.steps[move][1] not in avoided]
 
 
 def hours_table(gate, goal):

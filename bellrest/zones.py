@@ -14,6 +14,15 @@ def stay_test(gate, state):
     return [(gate.clock_number(clock), ((0, 1), edge)) for clock, edge in gate.stay_of(state)]
 
 
+def step_test(gate, step):
+    """The test with clock numbers that readings in the source of the step meet if and only if the step is let."""
+    _, _, test, restarts, target = gate.steps[step]
+    zeroed = [gate.clock_number(clock) for clock in restarts]
+    # No stay forbids the reading zero. So only the clocks that go on matter for the target.
+    kept = [(number, span) for number, span in stay_test(gate, target) if number not in zeroed]
+    return number_test(gate, test) + kept
+
+
 def meeting(gate, state, test, table):
     """The shut table of the readings for which the stay of the state and the test hold, or None."""
     wanted = stay_test(gate, state) + number_test(gate, test)
@@ -40,17 +49,23 @@ def each_zone(gate, ceilings, ends=()):
     in ends no step is followed.
     """
     state, _ = gate.states[0]
-    latest = [(state, rested_zone(gate, ceilings, state, all_zero(len(gate.clocks))), ())]
-    known = {state: [] for state, _ in gate.states}
+    table = all_zero(len(gate.clocks))
+    yield from zones_from(gate, ceilings, ends, state, table)
+
+
+def zones_from(gate, ceilings, ends, state, table):
+    """All zones of runs that begin in the state with readings of the table, as in each_zone."""
+    latest = [(state, rested_zone(gate, ceilings, state, table), ())]
+    known = {name: [] for name, _ in gate.states}
     while latest:
         fresh = []
-        for state, table, path in latest:
-            if not any(inside(table, other) for other in known[state]):
-                known[state].append(table)
-                fresh.append((state, table, path))
-                yield state, table, path
-        latest = [zone for state, table, path in fresh if state not in ends
-                  for zone in zones_after(gate, ceilings, state, table, path)]
+        for name, zone, path in latest:
+            if not any(inside(zone, other) for other in known[name]):
+                known[name].append(zone)
+                fresh.append((name, zone, path))
+                yield name, zone, path
+        latest = [after for name, zone, path in fresh if name not in ends
+                  for after in zones_after(gate, ceilings, name, zone, path)]
 
 
 def zones_after(gate, ceilings, state, table, path):
@@ -65,3 +80,12 @@ def rested_zone(gate, ceilings, state, table):
     # No limit of a stay is above its ceiling, so widening keeps what the stay says. Therefore
     # further rests, as long as the stay holds, lead nowhere but to readings of this table.
     return widen(resting(gate, state, table), ceilings)
+
+
+def path_zone(gate, path):
+    """The shut table of the readings with which runs with this path end, if there are such runs."""
+    state, _ = gate.states[0]
+    table = resting(gate, state, all_zero(len(gate.clocks)))
+    for step in path:
+        table = resting(gate, gate.steps[step][4], stepping(gate, table, step))
+    return table

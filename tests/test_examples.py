@@ -80,6 +80,12 @@ ROWS = {
 >>> WindowSight(((2, 1), (3, 1)), ()).fits((((1, 1), "push"), ((4, 1), "bell")))
 True
 """,
+    "surely": """
+>>> from bellrest.sights import BareSight
+>>> from bellrest.surely import moment_span
+>>> moment_span(door, BareSight(("push", "bell", "push")), 2)
+((2, 1), None)
+""",
 }
 
 

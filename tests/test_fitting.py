@@ -1,6 +1,5 @@
 """Points 72 and 73: watched gates, and whether the runs of a gate fit a sight."""
 
-import itertools
 import unittest
 
 from bellrest.errors import InvalidGate, InvalidHall, TooMany
@@ -8,71 +7,17 @@ from bellrest.fitting import could, first_wrong, states_after, watched, wrong_pa
 from bellrest.gates import Gate
 from bellrest.halls import Hall
 from bellrest.patches import avoids, is_closed_patches
-from bellrest.pathtables import path_conditions
-from bellrest.shutting import shut
 from bellrest.sights import BareSight, RoundedSight, Sight, WindowSight
 from bellrest.spans import span
-from bellrest.tables import table_with
 from bellrest.watchers import label
-from helpers import Walk, door, fits_oracle, raised, random_gates, random_span, seeded, walked
+from fits import fitting_paths, random_sights
+from helpers import Walk, door, fits_oracle, raised, random_gates, seeded, walked
 
 EVER = ((0, 1), None)
 # A knock that nobody hears is needed before each bell; after it the state may be one of two.
 LAMP = Gate("lamp", ("x",), (("off", ()), ("on", (("x", (3, 1)),)), ("dim", (("x", (2, 0)),)), ("gone", ())),
             (("off", "push", (("x", ((1, 1), None)),), ("x",), "on"), ("on", "knock", (("x", ((0, 0), None)),), (), "dim"),
              ("on", "bell", (("x", ((3, 1), None)),), (), "off"), ("dim", "bell", (), ("x",), "gone"), ("dim", "knock", (), (), "on")))
-
-
-def span_caps(number, span):
-    low, high = span
-    return [(number, 0, high), (0, number, (-low[0], low[1]))]
-
-
-def sides_of(window):
-    """The parts of time: a span and whether it is seen; those before and after the window without limits above 9."""
-    if window is None:
-        return [(EVER, True)]
-    (low, reach), high = window
-    sides = [(window, True)]
-    if (low, 1 - reach) > (0, 0):
-        sides.append((((0, 1), (low, 1 - reach)), False))
-    if high is not None:
-        sides.append((((high[0], 1 - high[1]), None), False))
-    return sides
-
-
-def fitting_paths(gate, sight, most):
-    """All paths with at most so many steps of fitting runs, by trying for each entry where it lies."""
-    window = getattr(sight, "window", None)
-    found = []
-    for path in all_paths(gate, most):
-        deeds = [gate.steps[step][1] for step in path]
-        places = [[(EVER, None)] if deed in sight.hidden else sides_of(window) for deed in deeds]
-        if any(fits_with(gate, sight, path, choice) for choice in itertools.product(*places)):
-            found.append(path)
-    return found
-
-
-def fits_with(gate, sight, path, choice):
-    seen = [(number, side) for number, (side, shown) in enumerate(choice, 1) if shown]
-    if len(seen) != len(sight.entries) or (path and (not seen or seen[-1][0] != len(path))):
-        return False
-    conditions = path_conditions(gate, path, ())
-    for number, (side, _) in enumerate(choice, 1):
-        conditions.extend(span_caps(number, side))
-    for (number, _), (test, deed) in zip(seen, sight.entries):
-        if gate.steps[path[number - 1]][1] != deed:
-            return False
-        conditions.extend(span_caps(number, test))
-    return shut(table_with(len(path) + 1, *conditions)) is not None
-
-
-def all_paths(gate, most):
-    paths = [()]
-    for _ in range(most + 1):
-        yield from paths
-        paths = [(*path, step) for path in paths for step, parts in enumerate(gate.steps)
-                 if parts[0] == (gate.steps[path[-1]][4] if path else gate.states[0][0])]
 
 
 class Base(unittest.TestCase):
@@ -187,25 +132,6 @@ class TestFitting(Base):
         self.assertEqual(could(door(), sight), could(door(), sight))
         wrong = RoundedSight(((1, "push"), (2, "push")))
         self.assertEqual(wrong_patches(door(), wrong), wrong_patches(door(), wrong))
-
-
-def random_sights(chance, count):
-    for _ in range(count):
-        hidden = chance.choice(((), ("bell",), ("push",), ("hum",), ()))
-        seen = [deed for deed in ("push", "bell") if deed not in hidden]
-        deeds = [chance.choice(seen) for _ in range(chance.randint(0, 3))]
-        kind = chance.randint(0, 3)
-        if kind == 0:
-            yield BareSight(tuple(deeds), hidden)
-        elif kind == 1:
-            hours = sorted(chance.randint(0, 3) for _ in deeds)
-            yield RoundedSight(tuple(zip(hours, deeds)), hidden, rounding=chance.choice(("down", "up")))
-        else:
-            entries = tuple((random_span(chance, 3), deed) for deed in deeds)
-            if kind == 2:
-                yield Sight(entries, hidden)
-            else:
-                yield WindowSight(random_span(chance, 2), tuple((EVER, deed) for deed in deeds), hidden)
 
 
 class TestWatched(unittest.TestCase):

@@ -160,6 +160,36 @@ first_wrong(gate, sight)
 wrong_patches(gate, sight)
 states_after(gate, sight)
 """,
+    "surely": """
+moment_span(gate, sight, index)
+how_many(gate, sight, index, deed)
+surely(gate, sight, index, deed)
+passage(gate, first, second, deed)
+bare_rows(gate, length)
+""",
+    "within": """
+extra_row(one, other)
+within_table(one, other)
+is_within_table(one, other, value)
+""",
+    "alike": """
+alike(one, other)
+parting_row(one, other)
+alike_states(gate)
+begun_at(gate, state)
+bare_parting(one, other)
+""",
+    "hanging": """
+stuck(gate, standing)
+stuck_spots(gate)
+hang_run(gate)
+""",
+    "hurrying": """
+hurry(gate)
+hurry_run(gate, rounds)
+is_calm(gate, value)
+calm_ranks(gate)
+""",
 }
 
 DOOR = door()
@@ -224,6 +254,14 @@ text(self)
 cut(self, count)
 watcher(self, name, deeds)
 """, (((0, 1), None), SEEN), {"entries": SEEN, "hidden": (), "window": ((0, 1), None)}),
+    "Doubt": ("doubts", "(self, *gates)", """
+saw(self, row)
+missed(self, row)
+undo(self)
+remaining(self)
+ask(self, row)
+next_row(self)
+""", (DOOR,), {}),
 }
 KINDS = {"property": property, "classmethod": classmethod, "staticmethod": staticmethod}
 

@@ -4,11 +4,14 @@ import itertools
 import unittest
 
 from bellrest.gates import Gate
-from bellrest.pathtables import path_table, run_of, run_with
+from bellrest.kindtables import kind_table, kinds_of
+from bellrest.moves import meet
+from bellrest.pathtables import least_moments, path_conditions, path_table, run_into, run_of, run_with
 from bellrest.running import is_run
 from bellrest.shutting import is_shut
 from bellrest.tables import anything, keeps
-from helpers import door, grid, random_gates, random_span, seeded, since_oracle, walked
+from bellrest.zones import path_zone
+from helpers import door, fraction, grid, kind_oracle, random_gates, random_span, seeded, since_oracle, walked
 
 GATES = random_gates(81, 24)
 
@@ -115,6 +118,38 @@ class TestPathTables(unittest.TestCase):
         self.assertEqual(run_with(gate, (0,), ((3, 2), (2, 1))), ((((3, 2), "push"),), (0,), (1, 2)))
         self.assertEqual(run_with(gate, (0, 1), ((3, 2), (3, 2), (3, 2))),
                          ((((3, 2), "push"), ((3, 2), "bell")), (0, 1), (0, 1)))
+
+    def test_least_moments(self):
+        chance = seeded(82)
+        strict = 0
+        for gate in GATES:
+            for path in some_paths(chance, gate):
+                table = path_table(gate, path)
+                if table is not None:
+                    moments = least_moments(len(path) + 1, path_conditions(gate, path, ()))
+                    self.assertIs(keeps(table, moments), True)
+                    self.assertEqual(is_run(gate, run_with(gate, path, moments)), True)
+                    # None is later than it must be, but for the grains.
+                    for number, moment in enumerate(moments, 1):
+                        low, reach = table[0][number]
+                        self.assertTrue(-low <= fraction(moment) < 1 - low)
+                        strict += reach == 0
+        self.assertGreater(strict, 10)
+
+    def test_runs_into_tables(self):
+        chance = seeded(83)
+        count = 0
+        for gate in GATES:
+            for path in some_paths(chance, gate):
+                if path_table(gate, path) is not None:
+                    held = path_zone(gate, path)
+                    for kind in kinds_of(held, gate.ceilings)[::3]:
+                        part = kind_table(kind, gate.ceilings)
+                        run = run_into(gate, path, meet(held, part))
+                        _, walk = walked(gate, run)
+                        self.assertEqual((run[1], kind_oracle(walk.standing()[1], gate.ceilings)), (path, kind))
+                        count += 1
+        self.assertGreater(count, 300)
 
     def test_a_long_path(self):
         path = (0, 1) * 20
