@@ -94,12 +94,12 @@ def has_each_clock_once(clocks, value):
     """Is the value a tuple of pairs that begin with different clocks?"""
     if not isinstance(value, tuple) or not all(is_tuple_of(2, pair) for pair in value):
         return False
-    return are_different_clocks(clocks, tuple([clock for clock, _ in value]))
+    return are_different_names(clocks, tuple([clock for clock, _ in value]))
 
 
-def are_different_clocks(clocks, value):
-    """Is the value a tuple of different names among the clocks?"""
-    if not isinstance(value, tuple) or not all(clock in clocks for clock in value):
+def are_different_names(names, value):
+    """Is the value a tuple of different ones of these names?"""
+    if not isinstance(value, tuple) or not all(name in names for name in value):
         return False
     return len(set(value)) == len(value)
 
@@ -111,4 +111,4 @@ def is_step(clocks, names, value):
     source, deed, test, restarts, target = value
     if not (source in names and is_simple(deed) and target in names):
         return False
-    return is_test(clocks, test) and are_different_clocks(clocks, restarts)
+    return is_test(clocks, test) and are_different_names(clocks, restarts)

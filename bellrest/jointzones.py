@@ -4,7 +4,7 @@ The clocks of the second gate follow those of the first one. Both gates take ste
 deed at the same moment. The second gate is settled.
 """
 
-from bellrest.moves import cut, inside, later, restart, widen
+from bellrest.moves import caps_inside, cut, restarted, risen, widened
 from bellrest.pathtables import least_moments, path_conditions, span_conditions, stay_conditions, step_conditions
 from bellrest.sights import span_after, span_before
 from bellrest.tables import all_zero
@@ -35,7 +35,7 @@ def each_joint_zone(one, other):
     while latest:
         fresh = []
         for pair, table, paths in latest:
-            if not any(inside(table, before) for before in known.get(pair, [])):
+            if not any(caps_inside(table, before) for before in known.get(pair, [])):
                 known.setdefault(pair, []).append(table)
                 fresh.append((pair, table, paths))
                 yield pair, table, paths
@@ -45,7 +45,7 @@ def each_joint_zone(one, other):
 def rested_joint_zone(one, other, state, table):
     """The widened table of the readings after all rests that the first gate lets in the state."""
     stay = stay_test(one, state)
-    return widen(cut(later(table), *stay), one.ceilings + other.ceilings)
+    return widened(cut(risen(table), *stay), one.ceilings + other.ceilings)
 
 
 def joint_zones_after(one, other, states, table, paths):
@@ -54,8 +54,9 @@ def joint_zones_after(one, other, states, table, paths):
     for step in one.steps_from(states[0]):
         for match in matches_of(one, other, states[1], step):
             test = step_test(one, step) + matched_test(one, other, match)
-            readings = restart(cut(table, *test), zeroed_by(one, step, 0) + zeroed_by(other, match, len(one.clocks)))
-            if readings is not None:
+            met = cut(table, *test)
+            if met is not None:
+                readings = restarted(met, zeroed_by(one, step, 0) + zeroed_by(other, match, len(one.clocks)))
                 targets = (one.steps[step][4], other.steps[match][4])
                 longer = ((*paths[0], step), (*paths[1], match))
                 zones.append((targets, rested_joint_zone(one, other, targets[0], readings), longer))

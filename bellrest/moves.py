@@ -11,8 +11,11 @@ from bellrest.tables import tighter_of, with_cap
 def later(table):
     """All readings that result when all clocks of some readings advance by the same rest."""
     held = shut_or_none(table)
-    if held is None:
-        return None
+    return None if held is None else risen(held)
+
+
+def risen(held):
+    """The shut table of all readings that result from rests, from a shut table."""
     # Without the caps on the readings themselves the other caps stay as tight as they are.
     return held[:1] + tuple([(None,) + row[1:] for row in held[1:]])
 
@@ -28,8 +31,11 @@ def earlier(table):
 def restart(table, clocks):
     """The readings with the clocks of these numbers set to zero."""
     held = shut_or_none(table)
-    if held is None:
-        return None
+    return None if held is None else restarted(held, clocks)
+
+
+def restarted(held, clocks):
+    """The shut table of the readings with the clocks set to zero, from a shut table."""
     # A clock that reads zero has the caps of the zero clock.
     places = [0 if k in clocks else k for k in range(len(held))]
     return tuple([tuple([held[i][j] for j in places]) for i in places])
@@ -101,11 +107,15 @@ def caps_inside(held, other):
 def widen(table, ceilings):
     """The lot without the limits beyond the ceilings."""
     held = shut_or_none(table)
-    if held is None:
-        return None
+    return None if held is None else widened(held, ceilings)
+
+
+def widened(held, ceilings):
+    """The shut table of the lot without the limits beyond the ceilings, from a shut table."""
     tops = (0, *ceilings)
     numbers = range(len(held))
-    return tightest(tuple([tuple([widened_cap(held, tops, i, j) for j in numbers]) for i in numbers]))
+    wider = tuple([tuple([widened_cap(held, tops, i, j) for j in numbers]) for i in numbers])
+    return held if wider == held else tightest(wider)
 
 
 def widened_cap(held, tops, i, j):

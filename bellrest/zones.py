@@ -1,6 +1,6 @@
-"""Sets of standings: a state with a table of readings, and where rests and steps lead from there."""
+"""Sets of standings: a state with a shut table of readings, and where rests and steps lead from there."""
 
-from bellrest.moves import cut, inside, later, restart, widen
+from bellrest.moves import caps_inside, cut, restarted, risen, widened
 from bellrest.tables import all_zero
 
 
@@ -31,14 +31,16 @@ def meeting(gate, state, test, table):
 
 def resting(gate, state, table):
     """The shut table of the readings after all rests for which the stay holds, or None."""
-    return meeting(gate, state, (), later(table))
+    return meeting(gate, state, (), risen(table))
 
 
 def stepping(gate, table, step):
     """The shut table of the readings directly after the step from readings of the table, or None."""
     source, _, test, restarts, target = gate.steps[step]
-    zeroed = restart(meeting(gate, source, test, table), [gate.clock_number(clock) for clock in restarts])
-    return meeting(gate, target, (), zeroed)
+    met = meeting(gate, source, test, table)
+    if met is None:
+        return None
+    return meeting(gate, target, (), restarted(met, [gate.clock_number(clock) for clock in restarts]))
 
 
 def each_zone(gate, ceilings, ends=()):
@@ -60,7 +62,7 @@ def zones_from(gate, ceilings, ends, state, table):
     while latest:
         fresh = []
         for name, zone, path in latest:
-            if not any(inside(zone, other) for other in known[name]):
+            if not any(caps_inside(zone, other) for other in known[name]):
                 known[name].append(zone)
                 fresh.append((name, zone, path))
                 yield name, zone, path
@@ -76,10 +78,10 @@ def zones_after(gate, ceilings, state, table, path):
 
 
 def rested_zone(gate, ceilings, state, table):
-    """The widened table of the readings after all rests."""
+    """The widened table of the readings after all rests; for some of them the stay of the state holds."""
     # No limit of a stay is above its ceiling, so widening keeps what the stay says. Therefore
     # further rests, as long as the stay holds, lead nowhere but to readings of this table.
-    return widen(resting(gate, state, table), ceilings)
+    return widened(resting(gate, state, table), ceilings)
 
 
 def path_zone(gate, path):

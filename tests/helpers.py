@@ -362,15 +362,14 @@ def moves_oracle(gate, spot):
     """Pairs of a possible move at the spot and the spot after it, from some readings of the kind."""
     state, kind = spot
     walk = Walk(gate)
-    sample = next(one for one in sample_readings(gate.ceilings) if kind_oracle(one, gate.ceilings) == kind)
+    sample = readings_by_kind(gate.ceilings)[kind]
     found = []
     for move in ("rest", *range(len(gate.steps))):
         walk.state = state
         walk.readings = dict(zip(gate.clocks, map(fraction, sample)))
         if move == "rest":
             after = (following_kinds(sample, gate.ceilings) * 2)[1]
-            rested = next(one for one in sample_readings(gate.ceilings) if kind_oracle(one, gate.ceilings) == after)
-            walk.readings = dict(zip(gate.clocks, map(fraction, rested)))
+            walk.readings = dict(zip(gate.clocks, map(fraction, readings_by_kind(gate.ceilings)[after])))
             possible = walk.stays()
         else:
             possible = walk.step(move, gate.steps[move][1])
@@ -390,8 +389,7 @@ def stay_holds_oracle(gate, state, kind):
     """Does the stay hold for readings of the kind?"""
     walk = Walk(gate)
     walk.state = state
-    sample = next(one for one in sample_readings(gate.ceilings) if kind_oracle(one, gate.ceilings) == kind)
-    walk.readings = dict(zip(gate.clocks, map(fraction, sample)))
+    walk.readings = dict(zip(gate.clocks, map(fraction, readings_by_kind(gate.ceilings)[kind])))
     return walk.stays()
 
 

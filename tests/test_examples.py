@@ -86,6 +86,11 @@ True
 >>> moment_span(door, BareSight(("push", "bell", "push")), 2)
 ((2, 1), None)
 """,
+    "slack": """
+>>> from bellrest.slack import slack
+>>> slack(door, (((3, 2), "push"), ((2, 1), "bell")), (0, 1), 1)
+(((0, 1), 1), ((2, 1), 1))
+""",
 }
 
 

@@ -190,6 +190,35 @@ hurry_run(gate, rounds)
 is_calm(gate, value)
 calm_ranks(gate)
 """,
+    "slack": """
+slack(gate, row, path, place)
+rest_spans(gate, path)
+""",
+    "looks": """
+fewest_looks(gate, row, hidden=())
+""",
+    "leading": """
+is_plan(gate, ours, aim, value)
+plan(gate, ours, aim)
+is_trap(gate, ours, aim, value)
+trap(gate, ours, aim)
+""",
+    "trimming": """
+unused_steps(gate)
+unmet_states(gate)
+trimmed(gate)
+""",
+    "cases": """
+is_fact(gate, length, value)
+fact_holds(gate, fact, run)
+""",
+    "bench": """
+tried(bench, work)
+""",
+    "plain": """
+grid_rows(gate, length, parts, until)
+grid_bare(gate, length, parts, until)
+""",
 }
 
 DOOR = door()
@@ -262,6 +291,46 @@ remaining(self)
 ask(self, row)
 next_row(self)
 """, (DOOR,), {}),
+    "Case": ("cases", "(self, gate, length)", """
+classmethod seen(cls, gate, sight)
+tell(self, fact)
+forget(self, number)
+undo(self)
+again(self)
+facts(self)
+closed(self)
+ask(self, fact)
+paths_left(self)
+table(self, path)
+example(self)
+""", (DOOR, 2), {"gate": DOOR, "length": 2}),
+    "Bench": ("bench", "(self, gate)", """
+property moment(self)
+property standing(self)
+property row(self)
+property path(self)
+property left(self)
+property grain(self)
+change_grain(self, value)
+rest(self, rest)
+do(self, deed, choice=0)
+undo(self)
+again(self)
+mark(self, name)
+back_to(self, name)
+attempt(self, *actions)
+peek(self, *actions)
+trial(self)
+lets(self)
+room_now(self)
+small_rest(self)
+can_meet(self, goal)
+advice(self, plan)
+""", (DOOR,), {"gate": DOOR}),
+    "Trial": ("bench", "(self, bench)", """
+__enter__(self)
+__exit__(self, kind, value, trace)
+""", (None,), {}),
 }
 KINDS = {"property": property, "classmethod": classmethod, "staticmethod": staticmethod}
 
@@ -303,6 +372,16 @@ class TestFunctions(unittest.TestCase):
         module = importlib.import_module("bellrest.sights")
         for name in ("RoundedSight", "BareSight", "WindowSight"):
             self.assertEqual(vars(module)[name].__bases__, (module.Sight,))
+
+    def test_the_grain_has_a_setter(self):
+        module = importlib.import_module("bellrest.bench")
+        self.assertIsNotNone(vars(module.Bench)["grain"].fset)
+        self.assertEqual(vars(module.Bench)["MOST_GRAIN"], 60)
+
+    def test_generators(self):
+        for name, function in (("kinds", "rests_of"), ("kindtables", "each_kind"), ("plain", "grid_rows")):
+            module = importlib.import_module("bellrest." + name)
+            self.assertTrue(inspect.isgeneratorfunction(vars(module)[function]))
 
     def test_the_package_binds_nothing(self):
         names = [name for name, value in vars(bellrest).items() if not name.startswith("__")]
