@@ -3,7 +3,7 @@
 from bellrest.alike import parting_row, shortest_row
 from bellrest.errors import InvalidHall, NothingFits, NothingToUndo
 from bellrest.halls import is_new_name
-from bellrest.running import check_row, lets
+from bellrest.running import lets
 from bellrest.within import check_settled
 
 
@@ -54,7 +54,6 @@ class Doubt:
 
     def _say(self, row, is_let):
         """Keep the candidates that let the row, or those that do not."""
-        check_row(row)
         kept = tuple([gate for gate in self._lefts[-1] if lets(gate, row) == is_let])
         if kept == ():
             raise NothingFits(len(self._lefts) - 1)

@@ -24,7 +24,8 @@ def stuck_spots(gate):
 
 def hang_run(gate):
     """Some let run with the fewest entries that ends at a stuck standing, or None."""
-    for state, table, path in each_zone(gate, gate.ceilings):
+    ceilings = gate.ceilings
+    for state, table, path in each_zone(gate, ceilings):
         if stuck_tables(gate, state, table):
             # The table may have been widened. A run needs readings to which the path really leads.
             return run_into(gate, path, stuck_tables(gate, state, path_zone(gate, path))[0])

@@ -39,10 +39,8 @@ def keeps_ranks(gate, ours, aim, ranks, triple):
     spot, rank, move = triple
     if spot[0] == aim:
         return rank == 0 and move == "done"
-    after = spot_of_move(gate, ours, spot, move)
-    if after is None:
-        return False
-    targets = [after, *foreign_spots(gate, ours, spot)]
+    # The target is None if people cannot make the move, and no spot with a rank then.
+    targets = [spot_of_move(gate, ours, spot, move), *foreign_spots(gate, ours, spot)]
     return all(target in ranks and ranks[target] < rank for target in targets)
 
 

@@ -7,7 +7,8 @@ from bellrest.zones import each_zone, stepping
 def unused_steps(gate):
     """The ascending indices of the steps that no let run takes."""
     used = {}
-    for state, table, _ in each_zone(gate, gate.ceilings):
+    ceilings = gate.ceilings
+    for state, table, _ in each_zone(gate, ceilings):
         for step in gate.steps_from(state):
             if step not in used and stepping(gate, table, step) is not None:
                 used[step] = True
@@ -16,7 +17,8 @@ def unused_steps(gate):
 
 def unmet_states(gate):
     """The states in which no let run ends, in the order of the gate."""
-    met = {state: True for state, _, _ in each_zone(gate, gate.ceilings)}
+    ceilings = gate.ceilings
+    met = {state: True for state, _, _ in each_zone(gate, ceilings)}
     return tuple([state for state, _ in gate.states if state not in met])
 
 

@@ -252,6 +252,27 @@ def random_gates(seed, count):
     return [Gate(*random_gate_parts(chance)) for _ in range(count)]
 
 
+CLOCKS = ("x", "y", "z")
+DEEDS = ("bell", "knock", "push")
+
+
+def larger_gate(chance, name="whole"):
+    """A gate with up to three clocks and four states, all of which steps often lead to."""
+    from bellrest.gates import Gate
+    clocks = CLOCKS[:chance.choice((1, 2, 2, 3))]
+    names = ("a", "b", "c", "d")[:chance.randint(1, 4)]
+    most = 3 if len(clocks) < 3 else 2
+    states = tuple((state, tuple((clock, (chance.randint(1, most), chance.randint(0, 1))) for clock in clocks if chance.randint(0, 3) == 0))
+                   for state in names)
+    steps = []
+    for number in range(chance.randint(1, 2 + 2 * len(names))):
+        source = names[number % len(names)] if number else names[0]
+        test = tuple((clock, random_span(chance, most)) for clock in clocks if chance.randint(0, 2) == 0)
+        restarts = tuple(clock for clock in clocks if chance.randint(0, 1))
+        steps.append((source, chance.choice(DEEDS), test, restarts, chance.choice(names)))
+    return Gate(name, clocks, states, tuple(steps), ("creak",) * (chance.randint(0, 4) == 0))
+
+
 def random_row(chance, length, parts=2, until=4, deeds=("push", "bell")):
     moments = sorted(Fraction(chance.randint(0, until * parts), parts) for _ in range(length))
     return tuple((as_moment(moment), chance.choice(deeds)) for moment in moments)

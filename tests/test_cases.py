@@ -414,6 +414,23 @@ class TestCases(unittest.TestCase):
         self.assertEqual(raised(self, NothingToUndo, other.undo), {})
         self.assertNotEqual(one.closed(), other.closed())
 
+    def test_what_matters_of_the_past(self):
+        # Each way to begin leads to one state with x at zero; only what a fact tells of the time before tells them apart.
+        steps = (("s", "go", (("x", ((0, 1), (1, 1))),), ("x",), "t"), ("s", "go", (("x", ((3, 1), None)),), ("x",), "t"),
+                 ("t", "stop", (("x", ((0, 1), (0, 1))),), (), "t"))
+        gate = Gate("g", ("x",), (("s", ()), ("t", ())), steps)
+        longer = Gate("h", ("x",), (("r", ()), ("s", ()), ("t", ())), (("r", "come", (), ("x",), "s"), *steps))
+        for fact, path in ((("moment", 1, ((5, 1), (5, 1))), (1, 2)), (("moment", 1, ((0, 1), (1, 0))), (0, 2))):
+            case = Case(gate, 2)
+            case.tell(fact)
+            self.assertEqual(case.paths_left(), (path,))
+            self.check(case, [fact])
+        for fact, path in ((("gap", 0, 2, ((4, 0), None)), (0, 2, 3)), (("gap", 0, 2, ((0, 1), (1, 0))), (0, 1, 3))):
+            case = Case(longer, 3)
+            case.tell(fact)
+            self.assertEqual(case.paths_left(), (path,))
+            self.check(case, [fact])
+
     def test_tables(self):
         case = Case(door(), 1)
         self.assertEqual(case.table((0,)), (((0, 1), (-1, 1), (-1, 1)), (None, (0, 1), (0, 1)), (None, (0, 1), (0, 1))))

@@ -125,6 +125,15 @@ class TestHurry(unittest.TestCase):
         self.assertEqual((stem[:1], set(loop)), ((0,), {1}))
         self.assertEqual(len(hurry_run(gate, 40)[0]), len(stem) + 40 * len(loop))
 
+    def test_the_first_entry_waits_for_the_others(self):
+        # The knock could come at once, but the bell after it only at 5; so the knock must wait.
+        steps = (("s", "knock", (), (), "t"), ("t", "bell", (("y", ((5, 1), None)),), (), "s"))
+        for states in (("s", "t"), ("t", "s")):
+            gate = Gate("g", ("x", "y"), tuple((state, ()) for state in states), steps)
+            self.assertTrue(self.check(gate))
+        slow = Gate("g", ("x", "y"), (("s", ()), ("t", ())), (("s", "knock", (), ("x",), "t"), ("t", "bell", (("y", ((2, 0), None)),), (), "s")))
+        self.assertTrue(self.check(slow))
+
     def test_exact_rests_add_up(self):
         # A push and a bell half an hour apart are not possible: rests are compared with whole hours only.
         gate = Gate("g", ("x", "y"), (("s", (("y", (1, 0)),)), ("t", (("y", (1, 1)),))),

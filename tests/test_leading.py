@@ -210,6 +210,35 @@ class TestJudges(unittest.TestCase):
                     told[found] += 1
         self.assertGreater(min(told), 1)
 
+    def test_changed_plans(self):
+        chance = seeded("plans")
+        told = [0, 0]
+        for gate in random_gates(951, 400):
+            if sum(gate.ceilings) <= 4:
+                spots = all_moves(gate)
+                moves = ["rest", "done", None, True] + list(range(-1, len(gate.steps) + 1)) * 2
+                for aim, _ in gate.states:
+                    ours = tuple(deed for deed in gate.deeds if chance.randint(0, 2))
+                    made = plan(gate, ours, aim)
+                    for _ in range(6 if made else 0):
+                        at = chance.randrange(len(made))
+                        spot, rank, move = made[at]
+                        change = chance.randint(0, 3)
+                        other = ((), ((spot, rank, chance.choice(moves)),), ((spot, rank + chance.randint(-1, 2), move),),
+                                 ((chance.choice(list(spots)), rank, move),))[change]
+                        fewer = tuple(deed for deed in ours if chance.randint(0, 3))
+                        value = made[:at] + other + made[at + 1:]
+                        for names in (ours, fewer):
+                            found = plan_oracle(gate, names, aim, value, spots)
+                            self.assertIs(is_plan(gate, names, aim, value), found)
+                            told[found] += 1
+        self.assertGreater(min(told), 100)
+
+    def test_ranks_of_the_aim(self):
+        first = first_spot(door())
+        for rank, move, told in ((0, "done", True), (1, "done", False), (0, "rest", False), (1, "rest", False), (0, 0, False), (-1, "done", False)):
+            self.assertIs(is_plan(door(), ("push",), "shut", ((first, rank, move),)), told)
+
     def test_trap_judge(self):
         for ours, aim in (((), "t"), (("hum",), "t"), (("go",), "s")):
             spots = all_moves(SMALL)
@@ -225,13 +254,21 @@ class TestJudges(unittest.TestCase):
                 spots = all_moves(gate)
                 for aim, _ in gate.states:
                     ours = tuple(deed for deed in gate.deeds if chance.randint(0, 1))
-                    held = trap(gate, ours, aim) or ()
-                    for _ in range(4):
-                        value = tuple(spot for spot in held if chance.randint(0, 5)) + tuple(chance.sample(list(spots), chance.randint(0, 2)))
+                    held = trap(gate, ours, aim) or tuple(spot for spot in spots if spot[0] != aim)
+                    for missing in (0, 0, 1, 1, 2):
+                        value = tuple(chance.sample(held, max(0, len(held) - missing))) + tuple(chance.sample(list(spots), chance.randint(0, 1)))
                         found = trap_oracle(gate, ours, aim, value, spots)
                         self.assertIs(is_trap(gate, ours, aim, value), found)
                         told[found] += 1
         self.assertGreater(min(told), 40)
+
+    def test_our_steps_lead_out(self):
+        # Nobody else does anything, and the rest goes on for ever; but people can push.
+        for ours, told in (((), True), (("push",), False)):
+            gate = Gate("g", ("x",), (("s", ()), ("t", ())), (("s", "push", (("x", ((1, 1), None)),), (), "t"),) * bool(ours), ("push",))
+            spots = tuple(spot for spot in all_spots(gate) if spot[0] == "s")
+            self.assertIs(is_trap(gate, ours, "t", spots), told)
+            self.assertIs(is_trap(gate, ("push",), "t", spots), told)
 
     def test_every_item_has_the_stated_form(self):
         found, held = plan(SMALL, ("go",), "t"), trap(SMALL, (), "t")

@@ -6,7 +6,7 @@ import unittest
 from bellrest.errors import InvalidGate, InvalidHall, InvalidRow, NotLet, TooMany
 from bellrest.fitting import states_after
 from bellrest.gates import Gate
-from bellrest.looks import fewest_looks
+from bellrest.looks import fewest_looks, least_choice
 from bellrest.running import lets, standings
 from bellrest.sights import Sight
 from bellrest.spans import EVER, hour_span
@@ -40,7 +40,7 @@ class TestLooks(unittest.TestCase):
     def test_random(self):
         chance = seeded(94)
         told = {}
-        for gate in random_gates(95, 700):
+        for gate in random_gates(95, 2500):
             if len(gate.states) > 1 and len(gate.steps) >= 4:
                 for _ in range(6):
                     row = random_row(chance, chance.randint(0, 4))
@@ -101,6 +101,28 @@ class TestLooks(unittest.TestCase):
         self.assertEqual(standings(gate, row)[0][0], "odd")
         self.assertEqual(fewest_looks(gate, row), (2,))
         self.assertEqual(fewest_looks(gate, row[:2]), (1,))
+
+    def test_least_choices(self):
+        chance = seeded("choices")
+        sizes = set()
+        for _ in range(2000):
+            count = chance.randint(1, 6)
+            clashes = [sorted(chance.sample(range(count), chance.randint(1, min(3, count)))) for _ in range(chance.randint(0, 5))]
+            choices = [choice for size in range(count + 1) for choice in itertools.combinations(range(count), size)
+                       if all(set(choice) & set(clash) for clash in clashes)]
+            self.assertEqual(least_choice(clashes, count), choices[0])
+            sizes.add(len(choices[0]))
+        self.assertTrue(sizes >= {0, 1, 2, 3, 4})
+
+    def test_one_look_in_place_of_two(self):
+        # Only the second push tells apart what the first and the third one tell apart together.
+        late, early = (("x", ((2, 1), None)),), (("x", ((0, 1), (2, 0))),)
+        states = tuple((name, ()) for name in ("a", "aa", "b", "bb", "c", "d"))
+        steps = (("a", "push", early, ("x",), "aa"), ("aa", "push", early, (), "b"), ("aa", "push", late, (), "bb"), ("a", "push", late, (), "aa"),
+                 ("b", "push", (), (), "c"), ("bb", "push", (), (), "d"))
+        gate = Gate("g", ("x",), states, steps)
+        for row in ((((0, 1), "push"), ((1, 1), "push"), ((1, 1), "push")), (((0, 1), "push"), ((5, 1), "push"), ((5, 1), "push"))):
+            self.assertEqual(fewest_looks(gate, row), fewest_oracle(gate, row, ()))
 
     def test_hidden_entries(self):
         row = (((1, 1), "push"), ((2, 1), "bell"), ((3, 1), "push"), ((4, 1), "bell"))

@@ -10,7 +10,7 @@ from bellrest.running import lets
 from bellrest.sights import BareSight, RoundedSight, Sight, WindowSight
 from bellrest.surely import bare_rows, how_many, moment_span, passage, surely
 from fits import fitting_tables, random_sights
-from helpers import connected_tables, door, grid, raised, random_gates, seeded
+from helpers import connected_tables, door, grid, larger_gate, raised, random_gates, seeded
 from regions import SeenRegions, passages_told
 
 EVER = ((0, 1), None)
@@ -239,6 +239,25 @@ class TestPassages(unittest.TestCase):
                 words.append(found)
         self.assertGreater(same.count(True), 0.9 * len(same))
         self.assertGreater(min(words.count(word) for word in WORDS.values()), 8)
+
+    def test_three_deeds(self):
+        chance = seeded(760)
+        words = []
+        for _ in range(150):
+            gate = larger_gate(chance)
+            for names in itertools.product(gate.deeds, repeat=3):
+                found = passage(gate, *names)
+                self.assertEqual(found, WORDS[frozenset(passages_told(gate, *names))])
+                words.append(found)
+        self.assertGreater(min(words.count(word) for word in WORDS.values()), 20)
+        # What happens after the deed does not matter.
+        gate = Gate("g", ("x",), tuple((name, ()) for name in "abcd"),
+                    (("a", "push", (), (), "b"), ("b", "knock", (), (), "c"), ("c", "hum", (), (), "d"), ("d", "bell", (), (), "a"), ("b", "bell", (), (), "a")))
+        self.assertEqual(passage(gate, "push", "bell", "knock"), "sometimes")
+        self.assertEqual(passage(gate, "push", "bell", "hum"), "sometimes")
+        self.assertEqual(passage(gate, "push", "hum", "knock"), "always")
+        self.assertEqual(passage(gate, "knock", "push", "hum"), "always")
+        self.assertEqual(passage(gate, "bell", "push", "hum"), "never")
 
     def test_equal_deeds(self):
         self.assertEqual(passage(door(), "push", "push", "bell"), "always")

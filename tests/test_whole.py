@@ -39,29 +39,9 @@ from bellrest.trimming import trimmed, unmet_states, unused_steps
 from bellrest.within import extra_row, is_within_table, within_table
 from fits import random_sights
 from helpers import (
-    connected_tables, end_of, fraction, raised, random_gate_parts, random_goal, random_moment, random_row, random_span,
-    random_table, seeded)
+    DEEDS, connected_tables, end_of, fraction, larger_gate, raised, random_gate_parts, random_goal, random_moment, random_row,
+    random_span, random_table, seeded)
 from joint import changed_gate
-
-CLOCKS = ("x", "y", "z")
-DEEDS = ("bell", "knock", "push")
-
-
-def larger_gate(chance, name="whole"):
-    """A gate with up to three clocks and four states, all of which steps often lead to."""
-    clocks = CLOCKS[:chance.choice((1, 2, 2, 3))]
-    names = ("a", "b", "c", "d")[:chance.randint(1, 4)]
-    most = 3 if len(clocks) < 3 else 2
-    states = tuple((state, tuple((clock, (chance.randint(1, most), chance.randint(0, 1))) for clock in clocks if chance.randint(0, 3) == 0))
-                   for state in names)
-    steps = []
-    for number in range(chance.randint(1, 2 + 2 * len(names))):
-        source = names[number % len(names)] if number else names[0]
-        test = tuple((clock, random_span(chance, most)) for clock in clocks if chance.randint(0, 2) == 0)
-        restarts = tuple(clock for clock in clocks if chance.randint(0, 1))
-        steps.append((source, chance.choice(DEEDS), test, restarts, chance.choice(names)))
-    return Gate(name, clocks, states, tuple(steps), ("creak",) * (chance.randint(0, 4) == 0))
-
 
 def gates_for(seed, count):
     """Half of them small and half of them larger, and something to choose by."""
