@@ -35,37 +35,41 @@ class Bench:
 
     def __init__(self, gate):
         self.gate = gate
-        self._held = Held((((0, 1), start(gate), "rest"),), 0, (), 0)
+        # The one item is what there is now; in a list, since trials share it and put back what there was.
+        self._now = [Held((((0, 1), start(gate), "rest"),), 0, (), 0)]
 
     @property
     def moment(self):
         """The moment now."""
-        return self._held.places[self._held.at][0]
+        held = self._now[0]
+        return held.places[held.at][0]
 
     @property
     def standing(self):
         """The standing now."""
-        return self._held.places[self._held.at][1]
+        held = self._now[0]
+        return held.places[held.at][1]
 
     @property
     def row(self):
         """The row of the run."""
-        return tuple([(moment, self.gate.steps[move][1]) for moment, move in steps_done(self._held)])
+        return tuple([(moment, self.gate.steps[move][1]) for moment, move in steps_done(self._now[0])])
 
     @property
     def path(self):
         """The path of the run."""
-        return tuple([move for _, move in steps_done(self._held)])
+        return tuple([move for _, move in steps_done(self._now[0])])
 
     @property
     def left(self):
         """How many actions can be taken back, and how many can be done again."""
-        return self._held.at, len(self._held.places) - 1 - self._held.at
+        held = self._now[0]
+        return held.at, len(held.places) - 1 - held.at
 
     @property
     def grain(self):
         """The number of parts of an hour of which rests are multiples; 0 lets all rests."""
-        return self._held.parts
+        return self._now[0].parts
 
     @grain.setter
     def grain(self, value):
@@ -75,50 +79,53 @@ class Bench:
         """Change the grain."""
         if not (is_whole(value) and 0 <= value <= Bench.MOST_GRAIN):
             raise InvalidGrain(value)
-        held = self._held
-        self._held = Held(held.places, held.at, held.marks, value)
+        held = self._now[0]
+        self._now[0] = Held(held.places, held.at, held.marks, value)
 
     def rest(self, rest):
         """Rest."""
-        self._held = after_resting(self.gate, self._held, rest)
+        self._now[0] = after_resting(self.gate, self._now[0], rest)
 
     def do(self, deed, choice=0):
         """Take one of the steps with the deed that are let now."""
-        self._held = after_doing(self.gate, self._held, deed, choice)
+        self._now[0] = after_doing(self.gate, self._now[0], deed, choice)
 
     def undo(self):
         """Take back the last action."""
-        if self._held.at == 0:
+        held = self._now[0]
+        if held.at == 0:
             raise NothingToUndo()
-        self._held = moved_to(self._held, self._held.at - 1)
+        self._now[0] = moved_to(held, held.at - 1)
 
     def again(self):
         """Do the last action that was taken back once more."""
-        if self._held.at == len(self._held.places) - 1:
+        held = self._now[0]
+        if held.at == len(held.places) - 1:
             raise NothingToRedo()
-        self._held = moved_to(self._held, self._held.at + 1)
+        self._now[0] = moved_to(held, held.at + 1)
 
     def mark(self, name):
         """Remember the number of actions that are done now."""
-        held = self._held
+        held = self._now[0]
         others = [pair for pair in held.marks if pair[0] != name]
-        self._held = Held(held.places, held.at, (*others, (name, held.at)), held.parts)
+        self._now[0] = Held(held.places, held.at, (*others, (name, held.at)), held.parts)
 
     def back_to(self, name):
         """Take back all actions that were done after the mark was set."""
-        places = [at for known, at in self._held.marks if known == name]
+        held = self._now[0]
+        places = [at for known, at in held.marks if known == name]
         if places == []:
             raise UnknownMark(name)
-        self._held = moved_to(self._held, places[0])
+        self._now[0] = moved_to(held, places[0])
 
     def attempt(self, *actions):
         """Do the actions, all or none, and return the standing."""
-        self._held = after_actions(self.gate, self._held, actions)
+        self._now[0] = after_actions(self.gate, self._now[0], actions)
         return self.standing
 
     def peek(self, *actions):
         """The standing to which the actions would lead."""
-        held = after_actions(self.gate, self._held, actions)
+        held = after_actions(self.gate, self._now[0], actions)
         return held.places[held.at][1]
 
     def trial(self):
@@ -218,23 +225,18 @@ class Trial:
 
     def __init__(self, bench):
         self._bench = bench
-        self._held = None
+        self._now = bench._now
         self._saved = None
 
     def __enter__(self):
-        self._saved = Saved(self._bench._held, self._saved)
+        self._saved = Saved(self._now[0], self._saved)
         return self._bench
 
     def __exit__(self, kind, value, trace):
         saved = self._saved
-        self._held = saved.held
         self._saved = saved.outer
-        self.put_back()
-
-    # A method of its own: an __exit__ may give only one attribute a shorter name.
-    def put_back(self):
-        bench = self._bench
-        bench._held = self._held
+        self._now.clear()
+        self._now.append(saved.held)
 
 
 def tried(bench, work):

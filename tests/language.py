@@ -485,6 +485,9 @@ class FileCheck:
                 if part.name in seen and not any(isinstance(mark, ast.Attribute) for mark in part.decorator_list):
                     self.fault("L18", part, f"{part.name} is defined twice")
                 seen.add(part.name)
+                if part.name == "__exit__":
+                    for row, what in ExitCheck(node).run():
+                        self.fault("L6", row, what)
                 if part.name in NOT_ATTRIBUTES & {"decode", "encode", "format", "hex", "sort"}:
                     self.fault("L26", part, f"the method {part.name}")
             elif isinstance(part, ast.Assign):
@@ -492,6 +495,96 @@ class FileCheck:
                     self.fault("L5", part, "a class value that is not plain")
             elif not (at == 0 and is_docstring(self.parents, part)):
                 self.fault("L5", part, "something else in a class")
+
+
+class ExitCheck:
+    """What rule L6 With bars from the __exit__ of a class and from the methods that it calls.
+
+    It lets only the plainest forms of the rule: attributes are those of self and of the one local name.
+    """
+
+    def __init__(self, owner):
+        self.methods = {part.name: part for part in owner.body if isinstance(part, ast.FunctionDef)}
+        self.found = []
+        # The rule allows one short name for an attribute of self, in all of these methods together.
+        self.short = []
+
+    def run(self):
+        method = self.methods["__exit__"]
+        names = [arg.arg for arg in method.args.args]
+        if not (names == ["self", "kind", "value", "trace"] or (names == ["self"] and method.args.vararg is not None)):
+            self.found.append((method, "the parameters of __exit__"))
+        self.check_rows(method.body, True)
+        return self.found
+
+    def check_rows(self, rows, in_exit):
+        for row in rows:
+            if isinstance(row, ast.If):
+                if not self.is_test(row.test, in_exit):
+                    self.found.append((row, "a test in __exit__"))
+                self.check_rows(row.body + row.orelse, in_exit)
+            elif in_exit and self.is_call_of_method(row):
+                self.check_rows(self.methods[row.value.func.attr].body, False)
+            elif not self.is_row(row):
+                self.found.append((row, "a row of __exit__ or of a method that it calls"))
+
+    def is_call_of_method(self, row):
+        if not (isinstance(row, ast.Expr) and isinstance(row.value, ast.Call) and self.is_attribute(row.value.func)):
+            return False
+        call = row.value
+        return call.func.value.id == "self" and call.func.attr in self.methods and not call.args + call.keywords
+
+    def is_row(self, row):
+        if isinstance(row, ast.Pass):
+            return True
+        if isinstance(row, ast.Return):
+            return row.value is None or (isinstance(row.value, ast.Constant) and row.value.value in (None, False)
+                                         and not is_number(row.value))
+        if isinstance(row, ast.Assign) and len(row.targets) == 1:
+            if isinstance(row.targets[0], ast.Name):
+                return self.is_short_name(row)
+            return self.is_attribute(row.targets[0]) and self.is_simple(row.value)
+        if isinstance(row, ast.AugAssign):
+            return self.is_attribute(row.target) and is_number(row.value) and isinstance(row.op, (ast.Add, ast.Sub))
+        return isinstance(row, ast.Expr) and self.is_change_of_list(row.value)
+
+    def is_short_name(self, row):
+        self.short.append(row.targets[0].id)
+        return len(self.short) == 1 and self.is_attribute(row.value) and row.value.value.id == "self"
+
+    def is_change_of_list(self, call):
+        if not (isinstance(call, ast.Call) and isinstance(call.func, ast.Attribute)) or call.keywords:
+            return False
+        if not (self.is_attribute(call.func.value) or self.is_local(call.func.value)):
+            return False
+        if call.func.attr == "append":
+            return len(call.args) == 1 and self.is_simple(call.args[0])
+        return call.func.attr == "clear" and call.args == []
+
+    def is_local(self, node):
+        return isinstance(node, ast.Name) and node.id in self.short
+
+    def is_attribute(self, node):
+        if not (isinstance(node, ast.Attribute) and isinstance(node.value, ast.Name)):
+            return False
+        return node.value.id == "self" or node.value.id in self.short
+
+    def is_simple(self, node):
+        if isinstance(node, (ast.Tuple, ast.List)):
+            return all(self.is_simple(part) for part in node.elts)
+        return isinstance(node, ast.Constant) or self.is_local(node) or self.is_attribute(node)
+
+    def is_test(self, node, in_exit):
+        if isinstance(node, ast.BoolOp):
+            return all(self.is_test(part, in_exit) for part in node.values)
+        if isinstance(node, ast.UnaryOp):
+            return isinstance(node.op, ast.Not) and self.is_test(node.operand, in_exit)
+        if isinstance(node, ast.Compare):
+            asked = self.is_local(node.left) or self.is_attribute(node.left)
+            if in_exit and isinstance(node.left, ast.Name) and node.left.id == "kind":
+                asked = isinstance(node.ops[0], (ast.Is, ast.IsNot))
+            return asked and len(node.ops) == 1 and isinstance(node.comparators[0], ast.Constant)
+        return self.is_local(node) or self.is_attribute(node)
 
 
 def is_docstring(parents, node):

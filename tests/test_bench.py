@@ -124,29 +124,6 @@ class Base(unittest.TestCase):
         else:
             self.assertEqual(raised(self, expected[0], function, *arguments), expected[1])
 
-
-def random_action(chance, gate):
-    kind = chance.randint(0, 5)
-    if kind <= 2:
-        return "rest", chance.choice(((0, 1), (1, 2), (1, 1), random_moment(chance, 2, 4)))
-    deed = chance.choice(gate.deeds + ("push", "knock"))
-    return ("do", deed) if kind <= 4 else ("do", deed, chance.randint(-1, 2))
-
-
-class TestBench(Base):
-    def test_random(self):
-        chance = seeded(104)
-        errors = set()
-        for gate in [TWO, door()] * 10 + random_gates(104, 120):
-            bench, model = Bench(gate), Model(gate)
-            self.assertIs(bench.gate, gate)
-            self.same(bench, model)
-            for _ in range(25):
-                expected = self.random_call(chance, gate, bench, model)
-                errors.add(None if expected is None else expected[0])
-                self.same(bench, model)
-        self.assertEqual(errors, {None, OffGrain, RestBlocked, UnknownName, NotLet, NothingToUndo, NothingToRedo, UnknownMark})
-
     def random_call(self, chance, gate, bench, model):
         kind = chance.randint(0, 9)
         if kind <= 3:
@@ -192,6 +169,29 @@ class TestBench(Base):
         if not expected:
             model.done, model.undone = after.done, after.undone
         return expected
+
+
+def random_action(chance, gate):
+    kind = chance.randint(0, 5)
+    if kind <= 2:
+        return "rest", chance.choice(((0, 1), (1, 2), (1, 1), random_moment(chance, 2, 4)))
+    deed = chance.choice(gate.deeds + ("push", "knock"))
+    return ("do", deed) if kind <= 4 else ("do", deed, chance.randint(-1, 2))
+
+
+class TestBench(Base):
+    def test_random(self):
+        chance = seeded(104)
+        errors = set()
+        for gate in [TWO, door()] * 10 + random_gates(104, 120):
+            bench, model = Bench(gate), Model(gate)
+            self.assertIs(bench.gate, gate)
+            self.same(bench, model)
+            for _ in range(25):
+                expected = self.random_call(chance, gate, bench, model)
+                errors.add(None if expected is None else expected[0])
+                self.same(bench, model)
+        self.assertEqual(errors, {None, OffGrain, RestBlocked, UnknownName, NotLet, NothingToUndo, NothingToRedo, UnknownMark})
 
     def test_the_run(self):
         bench = Bench(door())
@@ -476,6 +476,122 @@ class TestTrials(Base):
             bench.undo()
         self.assertIs(same, bench)
         self.assertEqual(self.everything(bench), before)
+
+    def test_one_trial_inside_itself_with_errors(self):
+        bench = self.filled()
+        trial = bench.trial()
+        before = self.everything(bench)
+        error = KeyError(1)
+        with self.assertRaises(KeyError) as caught:
+            with trial:
+                bench.again()
+                bench.mark("c")
+                second = self.everything(bench)
+                with self.assertRaises(ValueError):
+                    with trial:
+                        self.disturb(bench)
+                        third = self.everything(bench)
+                        with self.assertRaises(UnknownName):
+                            with trial:
+                                bench.rest((1, 1))
+                                bench.grain = 7
+                                bench.do("knock")
+                        self.assertEqual(self.everything(bench), third)
+                        raise ValueError("no")
+                self.assertEqual(self.everything(bench), second)
+                with trial:
+                    bench.undo()
+                self.assertEqual(self.everything(bench), second)
+                raise error
+        self.assertIs(caught.exception, error)
+        self.assertEqual(self.everything(bench), before)
+        # Nothing is left in the trial either: what it saved next time is what there is then.
+        bench.rest((1, 4))
+        before = self.everything(bench)
+        with trial:
+            self.disturb_after_rest(bench)
+        self.assertEqual(self.everything(bench), before)
+
+    def disturb_after_rest(self, bench):
+        bench.change_grain(3)
+        bench.back_to("a")
+        bench.mark("b")
+        bench.rest((2, 3))
+
+    def test_two_trials_inside_each_other(self):
+        bench, other = self.filled(), Bench(TWO)
+        one, two, third = bench.trial(), Trial(bench), other.trial()
+        states = []
+        with one:
+            bench.again()
+            states.append(self.everything(bench))
+            with two, third:
+                bench.rest((1, 4))
+                other.do("push", 2)
+                states.append(self.everything(bench))
+                with one:
+                    bench.mark("c")
+                    bench.undo()
+                    states.append(self.everything(bench))
+                    with two:
+                        self.disturb(bench)
+                        other.rest((1, 3))
+                    self.assertEqual(self.everything(bench), states.pop())
+                self.assertEqual(self.everything(bench), states.pop())
+                # The trial of one bench puts nothing back into another one.
+                self.assertEqual((other.path, other.moment), ((4,), (1, 3)))
+                bench.grain = 1
+            self.assertEqual(self.everything(bench), states.pop())
+            self.assertEqual((other.path, other.left), ((), (0, 0)))
+        self.assertEqual((states, self.everything(bench)), ([], self.everything(self.filled())))
+
+    def test_changes_by_all_names_are_put_back(self):
+        bench = self.filled()
+        before = self.everything(bench)
+        with bench.trial() as same:
+            same.rest((1, 4))
+            with same.trial() as more:
+                more.do("bell")
+                self.assertEqual((bench.path, same.path, more.path), ((0, 1), (0, 1), (0, 1)))
+                self.assertEqual(bench.left, (4, 0))
+            self.assertEqual((bench.left, same.left), ((3, 0), (3, 0)))
+        self.assertEqual(self.everything(bench), before)
+        with bench.trial() as same:
+            pass
+        # The name still is the bench when the block has ended.
+        same.again()
+        self.assertEqual((bench.moment, bench.left), ((3, 2), (3, 1)))
+
+    def test_random_blocks(self):
+        chance = seeded(110)
+        self.blocks = {"done": 0, "error": 0, "inside itself": 0}
+        for gate in [TWO, door()] * 10 + random_gates(110, 60):
+            bench, model = Bench(gate), Model(gate)
+            trials = [bench.trial(), Trial(bench)]
+            for _ in range(4):
+                self.random_call(chance, gate, bench, model)
+                self.random_block(chance, gate, bench, model, trials, ())
+        self.assertGreater(min(self.blocks.values()), 100)
+
+    def random_block(self, chance, gate, bench, model, trials, entered):
+        """A block of one of the trials, with calls and further blocks in it; it may end with an error."""
+        number, error, inside = chance.randint(0, 1), chance.choice((None, ValueError("no"))), model.copy()
+        self.blocks["inside itself"] += number in entered
+        self.blocks["error" if error else "done"] += 1
+        try:
+            with trials[number] as same:
+                self.assertIs(same, bench)
+                self.same(bench, inside)
+                for _ in range(chance.randint(1, 3)):
+                    self.random_call(chance, gate, bench, inside)
+                    if len(entered) < 4 and chance.randint(0, 1):
+                        self.random_block(chance, gate, bench, inside, trials, (*entered, number))
+                self.same(bench, inside)
+                if error:
+                    raise error
+        except ValueError as caught:
+            self.assertIs(caught, error)
+        self.same(bench, model)
 
     def test_return_leaves_the_block(self):
         bench = self.filled()

@@ -5,6 +5,7 @@ import inspect
 import unittest
 
 import bellrest
+from bellrest.bench import Bench
 from helpers import door
 
 FUNCTIONS = {
@@ -330,7 +331,7 @@ advice(self, plan)
     "Trial": ("bench", "(self, bench)", """
 __enter__(self)
 __exit__(self, kind, value, trace)
-""", (None,), {}),
+""", (Bench(DOOR),), {}),
 }
 KINDS = {"property": property, "classmethod": classmethod, "staticmethod": staticmethod}
 

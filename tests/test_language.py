@@ -43,6 +43,39 @@ class Small(Box):
         return super().told()
 
 
+class Keeper:
+    def __init__(self, box):
+        self.box = box
+        self.rows = [box.rows]
+        self.before = None
+        self.many = 0
+        self.done = False
+
+    def __enter__(self):
+        self.before = Small(self.rows)
+        return self.box
+
+    def __exit__(self, kind, value, trace):
+        before = self.before
+        if kind is None and not self.done:
+            self.done = True
+        elif self.many == 3:
+            return False
+        self.box = before.rows
+        self.rows.clear()
+        self.rows.append((before.rows, self.many))
+        self.count()
+
+    def count(self):
+        self.many += 1
+        self.before = None
+
+
+class Quiet(Keeper):
+    def __exit__(self, *told):
+        pass
+
+
 def work(numbers, *more, last=1):
     """Some work."""
     seen = set()
@@ -58,6 +91,9 @@ def work(numbers, *more, last=1):
 '''
 
 OTHER = "def helper(*numbers):\n    return numbers\n"
+
+EXIT = "class A:\n    def __enter__(self):\n        return self\n\n    def __exit__(self, kind, value, trace):\n"
+SHUT = "\n    def shut(self):\n"
 
 # A rule, and lines that break it: a whole file, or the rows of a function when they begin with a blank.
 BAD = [
@@ -83,6 +119,24 @@ BAD = [
     ("L5", "class A:\n    def __and__(self, other):\n        return other(self)\n"),
     ("L6", " global k\n"),
     ("L6", " k == 1\n"),
+    ("L6", EXIT + "        a = self.a\n        b = self.b\n        b.now = a.now\n"),
+    ("L6", EXIT + "        a = self.a\n        self.b = a.b\n        self.shut()\n" + SHUT + "        c = self.c\n        c.b = self.b\n"),
+    ("L6", EXIT + "        self.shut()\n" + SHUT + "        self.open_again()\n\n    def open_again(self):\n        self.a = 1\n"),
+    ("L6", EXIT + "        self.shut(1)\n" + SHUT.replace("self", "self, a") + "        self.a = 1\n"),
+    ("L6", EXIT + "        self.a.pop()\n"),
+    ("L6", EXIT + "        self.a[0] = self.b\n"),
+    ("L6", EXIT + "        self.a.append(self.b[0])\n"),
+    ("L6", EXIT + "        self.a = helper(self.b)\n"),
+    ("L6", EXIT + "        self.a = -1\n"),
+    ("L6", EXIT + "        self.a = value\n"),
+    ("L6", EXIT + "        a = value\n"),
+    ("L6", EXIT + "        if value is None:\n            self.a = 1\n"),
+    ("L6", EXIT + "        if kind == 1:\n            self.a = 1\n"),
+    ("L6", EXIT + "        if self.told():\n            self.a = 1\n\n    def told(self):\n        return True\n"),
+    ("L6", EXIT + "        if self.a:\n            return True\n"),
+    ("L6", EXIT + "        return self.a\n"),
+    ("L6", EXIT + "        for a in self.rows:\n            pass\n"),
+    ("L6", EXIT.replace("value, trace", "value") + "        pass\n"),
     ("L7", " return 1.5\n"),
     ("L7", " return b'a'\n"),
     ("L7", " return k / 2\n"),
